@@ -1,0 +1,1 @@
+"""Clockloom: rows of worths by equations, woven into one loop."""

@@ -1,0 +1,65 @@
+"""The names, arguments and files of the interface, as far as they have landed."""
+
+import importlib
+import inspect
+import unittest
+
+FUNCTIONS = {
+    "words": {
+        "is_word": "(thing)", "least_word": "(word)", "letter": "(word, k)", "ones": "(word, k)",
+        "place_of": "(word, k)", "on": "(one, other, *, most=20000)", "other_of": "(word)",
+        "first_unlike": "(one, other)", "rate": "(word)", "joined": "(text, word)",
+    },
+    "trees": {
+        "module_wrong": "(thing)", "places": "(module, *, only=())", "e_at": "(module, place)",
+        "with_e": "(module, place, e)", "flows": "(module)",
+    },
+    "books": {"book_wrong": "(thing)"},
+    "texts": {
+        "module_text": "(module)", "modules_text": "(modules)", "read_module": "(text, *, most=60)",
+        "read_modules": "(text, *, most=60)",
+    },
+    "kinds": {"kinds": "(book, name)", "kinds_judged": "(book, name, paper)"},
+    "clocks": {"clocks": "(book, name)"},
+    "faces": {"face": "(book, name)"},
+}
+CLASSES = {
+    "words": {"Word": {
+        "__init__": "(self, again='1', *, head='')", "word": "(self)", "has_one": "(self, k)", "on": "(self, other)",
+        "other": "(self)", "__eq__": "(self, other)", "__len__": "(self)", "__str__": "(self)", "__repr__": "(self)",
+    }},
+    "books": {"Book": {
+        "__init__": "(self, modules, *, measure=2147483647)", "modules": "(self)", "module": "(self, name)",
+        "measure": "(self)", "__eq__": "(self, other)", "__len__": "(self)",
+    }},
+}
+CONSTANTS = {"words": {"MOST_SIGNS": 20000}, "trees": {"MOST": 60}, "books": {"MEASURE": 2147483647}}
+
+
+class Interface(unittest.TestCase):
+    def file(self, name):
+        return importlib.import_module(f"clockloom.{name}")
+
+    def test_functions(self):
+        for file, functions in FUNCTIONS.items():
+            for name, told in functions.items():
+                function = getattr(self.file(file), name)
+                self.assertEqual(str(inspect.signature(function)), told, name)
+                self.assertEqual(function.__module__, f"clockloom.{file}")
+
+    def test_classes(self):
+        for file, classes in CLASSES.items():
+            for name, methods in classes.items():
+                kind = getattr(self.file(file), name)
+                self.assertEqual(kind.__module__, f"clockloom.{file}")
+                for method, told in methods.items():
+                    self.assertEqual(str(inspect.signature(vars(kind)[method])), told, method)
+
+    def test_constants(self):
+        for file, constants in CONSTANTS.items():
+            for name, told in constants.items():
+                self.assertEqual(getattr(self.file(file), name), told)
+
+
+if __name__ == "__main__":
+    unittest.main()
