@@ -131,7 +131,7 @@ class ExpressionReader:
 
     def _named(self):
         name = self.line.one_name()
-        if self.line.sign() != "(" or self.many_brackets == MOST_OPEN:
+        if self.line.sign() != "(":
             self.read.append(("flow", name))
             return
         self._begin_bracket()

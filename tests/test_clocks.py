@@ -127,6 +127,18 @@ class TheWidest(unittest.TestCase):
         self.assertEqual(told["y"][1], (("c", True), ("e", True)))
         self.assertEqual(told[(0, ())][1], (("c", True),))
 
+    def test_calls_whose_ins_and_outs_hang_on_several(self):
+        deep = "MODULE k (c, d, e) OUT (x, y)\nx = (MERGE c (MERGE d e 0) 0)\ny = ((1 WHEN c) UNLESS d)"
+        book = book_of(deep, "MODULE m (a, b, f) OUT (z)\nz, v = k(a, b, (f + 1))")
+        told = dict(clocks(book, "m")[1])
+        self.assertEqual([told[x][1] for x in ("a", "b", "f", "z", "v", (0, ()), (0, (2,)))], [
+            (), (("a", True),), (("a", True), ("b", True)), (), (("a", True), ("b", False)), (),
+            (("a", True), ("b", True))])
+        # Each in on which another one hangs must be a flow, be it last in some conditions or ahead.
+        for parts, told in (("TRUE, b, 1", ("plain", 0, 0)), ("a, (NOT b), 1", ("plain", 0, 1))):
+            book = book_of(deep, f"MODULE m (a, b, f) OUT (z)\nz, v = k({parts})")
+            self.assertEqual(clocks(book, "m"), told)
+
     def test_a_base_without_parts(self):
         book = book_of("MODULE n () OUT (x)\nx = 1", "MODULE m () OUT (y)\ny = n()\nz = n()\nv = (y + 1)")
         told = dict(clocks(book, "m")[1])

@@ -72,6 +72,15 @@ class Errors(unittest.TestCase):
         for name, worth, error in held:
             self.assertEqual(repr(getattr(error, BEARING[name])), repr(worth))
 
+    def test_none_keeps_a_list_that_it_was_made_of(self):
+        for name, field in list(BEARING.items()) + [("NoText", "row"), ("NoText", "at")]:
+            worth = [1, ({"a": [2]}, [3])]
+            error = made(name, worth)
+            worth[1][0]["a"].append(4)
+            worth[1][1].append(4)
+            worth.append(4)
+            self.assertEqual(getattr(error, field), [1, ({"a": [2]}, [3])], name)
+
     def test_what_it_was_made_of_may_be_changed_behind(self):
         paper = ("ring", ["a", "b"])
         error = NoFace(paper)

@@ -219,6 +219,8 @@ class Refused(unittest.TestCase):
             self.of_row(f"x = {begin * 100}(BEATS 1(1)){end * 100}", 4 + len(begin) * 100)
             self.of_row(f"x = {begin * 100}q()", 5 + len(begin) * 100)
             self.of_row(f"x = {begin * 100}(", 4 + len(begin) * 100)
+            self.of_row(f"x = (({begin * 9}a{end * 9} + {begin * 9}a{end * 9}) = {begin * 100}", 4 + 2 + len(
+                f"{begin * 9}a{end * 9} + {begin * 9}a{end * 9}) = ") + len(begin) * 99 + begin.index("("))
         # Those that are closed again are not open.
         self.no_module(f"{HEAD}\nx = q({', '.join(['(NOT a)'] * 200)})", ("place", 0, ()))
         many = "(" * 99 + "(NOT a)" + " + (NOT a))" * 99

@@ -208,6 +208,29 @@ class Places(unittest.TestCase):
         ])
         self.assertEqual(places(module=of_whole(("then", ONE, A)), only=()), [(0, ()), (0, (0,))])
 
+    def test_parts_of_each_word(self):
+        b, c = ("flow", "b"), ("truth", True)
+        for word in ("sum", "less", "times", "below", "same", "both", "either"):
+            self.parts((word, A, b), [A, b])
+        self.parts(("not", b), [b])
+        self.parts(("pick", c, A, b), [c, A, b])
+        self.parts(("then", ONE, b), [b])
+        self.parts(("when", A, "b", False), [A])
+        self.parts(("merge", "b", A, c), [A, c])
+        self.parts(("call", "q", [b, A, c, b, ONE, A, A, b]), [b, A, c, b, ONE, A, A, b])
+        for e in (ONE, c, A, ("beats", "", "1"), ("call", "q", [])):
+            self.parts(e, [])
+
+    def parts(self, e, parts):
+        module = of_whole(e)
+        self.assertIsNone(module_wrong(module))
+        self.assertEqual(places(module), [(0, ())] + [(0, (i,)) for i in range(len(parts))])
+        for i, part in enumerate(parts):
+            self.assertEqual(e_at(module, (0, (i,))), part)
+            told = with_e(module, (0, (i,)), ("num", 9))
+            self.assertEqual([e_at(told, (0, (j,))) for j in range(len(parts))],
+                             parts[:i] + [("num", 9)] + parts[i + 1:])
+
     def test_places_are_whole_numbers(self):
         for k, path in places(EVERYTHING):
             self.assertIs(type(k), int)

@@ -67,6 +67,10 @@ class TheWord(unittest.TestCase):
                  ("1", ""), ("\u0661", "1"), "01", ("1\n", "1"), (("", "1"),), ("0" * 10 ** 6, "1")]
         for thing in wrong + list(ANYTHING):
             self.assertIs(is_word(thing), False, thing)
+        for code in list(range(32, 127)) + [10]:
+            sign = chr(code)
+            self.assertIs(is_word((sign, "1")), sign in "01")
+            self.assertIs(is_word(("", "1" + sign)), sign in "01")
 
     def test_least_of_all_small_ones(self):
         for word in BY_SIZE:
@@ -231,6 +235,11 @@ class WordsOfWords(unittest.TestCase):
         # Agains of 5 and 7 signs may be alike at 10 places, but not at 11 of them.
         self.assertEqual(first_unlike(("", "00100"), ("", "0010000")), 7)
         self.assertIsNone(first_unlike(("0" * 20000, "01" * 10000), ("0" * 20000, "01")))
+        for many in (5, 50, 20000):
+            self.assertEqual(first_unlike(("0" * many, "1"), ("", "0")), many)
+            self.assertEqual(first_unlike(("", "0"), ("0" * many, "1")), many)
+            self.assertEqual(first_unlike(("0" * many, "0001"), ("0" * (many - 1), "0")), many + 3)
+            self.assertEqual(first_unlike(("0" * (many - 1), "0"), ("0" * many, "0001")), many + 3)
         self.assertEqual(first_unlike(("", "0" * 19999 + "1"), ("", "0" * 19998 + "1")), 19998)
         self.assertEqual(first_unlike(("", "0" * 20000), ("0" * 20000, "0" * 19999 + "1")), 39999)
 
