@@ -16,15 +16,27 @@ ANYTHING = (
 ARITHMETIC = ("sum", "less", "times")
 PAIRS = ARITHMETIC + ("below", "same", "both", "either")
 
+# Words for a Maker of modules many of which have clocks.
+CLOCKED = (
+    ("when", "merge", "then"), ("when", "when", "merge", "same", "pick", "then"),
+    ("when", "merge", "then", "sum", "below"), PAIRS + ("not", "pick", "then", "when", "merge"),
+)
+
+# x is there where c is true, y where it isn't.
+SPLIT = "MODULE s (a, c) OUT (x, y)\nx = (a WHEN c)\ny = (a UNLESS c)"
+
 
 def book_of(*texts):
     """A book of the modules that texts write."""
     return Book(read_modules("\n\n".join(texts)))
 
 
-def row(text):
-    """The one row of a module of many ins, by its text."""
-    return read_modules(f"MODULE some (a, b, c, d, p, q) OUT (x)\nx = {text}")[0][3][0]
+def twelve_modules():
+    """A book of twelve modules of which each calls the one ahead twice; all have the face of the first."""
+    texts = ["MODULE ma (a, c) OUT (x, y)\nx = (a WHEN c)\ny = (a UNLESS c)"]
+    for name, below in zip("bcdefghijkl", "abcdefghijk"):
+        texts.append(f"MODULE m{name} (a, c) OUT (x, y)\nx, z = m{below}(a, c)\nv, y = m{below}(a, c)")
+    return book_of(*texts)
 
 
 class Maker:

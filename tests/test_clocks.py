@@ -7,16 +7,9 @@ import unittest
 from clockloom.clocks import clocks
 from clockloom.errors import NoName
 from clockloom.trees import flows, places
-from tests.making import Maker, PAIRS, book_of
+from tests.making import CLOCKED, Maker, SPLIT, book_of, twelve_modules
 from tests.oracles import clock_rules, lines_right, slow_clocks
 
-WORDS = (
-    ("when", "merge", "then"), ("when", "when", "merge", "same", "pick", "then"),
-    ("when", "merge", "then", "sum", "below"), PAIRS + ("not", "pick", "then", "when", "merge"),
-)
-
-# x is there where c is true, y where it isn't.
-SPLIT = "MODULE s (a, c) OUT (x, y)\nx = (a WHEN c)\ny = (a UNLESS c)"
 # Ins that are there where an in is true.
 ASKS = "MODULE k (c, d) OUT (x)\nx = (MERGE c d 0)"
 # An out hangs on an out.
@@ -154,7 +147,7 @@ class TheWidest(unittest.TestCase):
     def test_by_a_slow_way(self):
         found = {}
         for seed in range(120):
-            book = Maker(seed, words=WORDS[seed % 4], plain=(8, 20, 40)[seed % 3]).book(3, rows=2 + seed % 2, deep=3)
+            book = Maker(seed, words=CLOCKED[seed % 4], plain=(8, 20, 40)[seed % 3]).book(3, rows=2 + seed % 2, deep=3)
             for module in book.modules():
                 told, slow = clocks(book, module[0]), slow_clocks(book, module[0])
                 self.assertEqual(told[0], slow[0])
@@ -167,10 +160,7 @@ class TheWidest(unittest.TestCase):
         self.assertEqual(sorted(found), ["clash", "clocks", "plain", "two", "within"])
 
     def test_told_soon(self):
-        texts = ["MODULE ma (a, c) OUT (x, y)\nx = (a WHEN c)\ny = (a UNLESS c)"]
-        for name, below in zip("bcdefghijkl", "abcdefghijk"):
-            texts.append(f"MODULE m{name} (a, c) OUT (x, y)\nx, z = m{below}(a, c)\nv, y = m{below}(a, c)")
-        book = book_of(*texts)
+        book = twelve_modules()
         begin = time.monotonic()
         told = dict(clocks(book, "ml")[1])
         self.assertEqual([told[x][1] for x in "acxy"], [(), (), (("c", True),), (("c", False),)])

@@ -8,14 +8,9 @@ from clockloom.clocks import clocks
 from clockloom.errors import NoFace, NoName
 from clockloom.faces import face
 from clockloom.kinds import kinds
-from tests.making import Maker, PAIRS, book_of
+from tests.making import CLOCKED, Maker, SPLIT, book_of, twelve_modules
 from tests.oracles import slow_clocks, slow_face, slow_lack, slow_wants
 
-WORDS = (
-    ("when", "merge", "then"), ("when", "when", "merge", "same", "pick", "then"),
-    ("when", "merge", "then", "sum", "below"), PAIRS + ("not", "pick", "then", "when", "merge"),
-)
-SPLIT = "MODULE s (a, c) OUT (x, y)\nx = (a WHEN c)\ny = (a UNLESS c)"
 # The first out wants the second in, the second out the first.
 CROSS = "MODULE k (a, b) OUT (x, y)\nx = (b + 1)\ny = (NOT a)"
 LATE = "MODULE l (a) OUT (x)\nx = (0 THEN a)"
@@ -182,10 +177,7 @@ class Faces(unittest.TestCase):
             self.assertEqual(told[0], told[1])
 
     def test_told_soon(self):
-        texts = ["MODULE ma (a, c) OUT (x, y)\nx = (a WHEN c)\ny = (a UNLESS c)"]
-        for name, below in zip("bcdefghijkl", "abcdefghijk"):
-            texts.append(f"MODULE m{name} (a, c) OUT (x, y)\nx, z = m{below}(a, c)\nv, y = m{below}(a, c)")
-        book = book_of(*texts)
+        book = twelve_modules()
         begin = time.monotonic()
         self.assertEqual(face(book, "ml"), face(book, "ma"))
         self.assertLess(time.monotonic() - begin, 5)
@@ -204,7 +196,7 @@ class Faces(unittest.TestCase):
     def test_by_a_slow_way(self):
         found = {}
         for seed in range(120):
-            book = Maker(seed, words=WORDS[seed % 4], plain=(8, 20, 40)[seed % 3]).book(3, rows=2 + seed % 3, deep=2)
+            book = Maker(seed, words=CLOCKED[seed % 4], plain=(8, 20, 40)[seed % 3]).book(3, rows=2 + seed % 3, deep=2)
             for module in book.modules():
                 name = module[0]
                 try:
