@@ -66,6 +66,9 @@ class Book:
             raise NoMeasure("a measure is a whole number from 2 to 10 ** 12")
         self._table = {module[0]: fresh(module) for module in modules}
         self._measure = measure
+        # What other files infer of the modules is kept here by names: so it is inferred once.
+        self.seen = {}
+        self.grounds = {}
 
     def modules(self):
         """The list of the modules."""
@@ -73,9 +76,13 @@ class Book:
 
     def module(self, name):
         """The module of this name."""
+        return fresh(self.held(name))
+
+    def held(self, name):
+        """The module of this name as it is kept: nothing may change it, nor tell its lists."""
         if name not in self._table:
             raise NoName(name)
-        return fresh(self._table[name])
+        return self._table[name]
 
     def measure(self):
         """The measure."""
@@ -89,8 +96,8 @@ class Book:
 
 
 def called_first(book, name):
-    """A module and all those that it calls, straight or by others, each behind those it calls."""
-    reached = {name: book.module(name)}
+    """A module and all those that it calls, straight or by others, each behind those it calls, as kept."""
+    reached = {name: book.held(name)}
     names = [name]
     leads = {}
     while names:
@@ -98,6 +105,6 @@ def called_first(book, name):
         leads[at] = _called(reached[at])
         for below in leads[at]:
             if below not in reached:
-                reached[below] = book.module(below)
+                reached[below] = book.held(below)
                 names.append(below)
     return [reached[at] for at in order_of(leads)[1]]

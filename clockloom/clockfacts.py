@@ -7,13 +7,22 @@ from clockloom.shapes import calls_of, flows_of, places_below, walk
 
 
 class Seen:
-    """A module as its callers see it: its doors, and its face, or the paper that tells why it has none."""
+    """All that is inferred of a module.
 
-    def __init__(self, module, face, paper):
+    Each of these is None where what is ahead of it goes wrong: conditions leads each place
+    to those of its clock, wants and order are as 19 tells, the face is what callers see. The
+    paper tells why there is no face.
+    """
+
+    def __init__(self, module):
+        self.module = module
         self.ins = module[1]
         self.outs = module[2]
-        self.face = face
-        self.paper = paper
+        self.conditions = None
+        self.wants = None
+        self.order = None
+        self.face = None
+        self.paper = None
 
 
 def clocked(module):

@@ -1,7 +1,9 @@
 """The faces of modules, each behind those that it calls, and why there are none."""
 
+from clockloom.books import called_first
 from clockloom.clockfacts import Seen, clocked, facts_of, first_faceless, first_not_plain
 from clockloom.clocksolving import solved
+from clockloom.errors import NoFace
 from clockloom.kinds import door_kinds, kinds_papers
 from clockloom.links import Links
 from clockloom.wanting import ins_led_to, order_by, wants_of
@@ -44,30 +46,65 @@ def _kinds_anew(kinds):
     return tuple(told)
 
 
-def _seen_of(module, kinds_told, seen):
-    """What is Seen of a module, by what kinds tells of it and by what is seen of those that it calls."""
-    if kinds_told[0] != "kinds":
-        return Seen(module, None, kinds_told)
-    clocks_told = clocks_paper(module, seen)
-    if clocks_told[0] != "clocks":
-        return Seen(module, None, clocks_told)
-    conditions = {place: clock[1] for place, clock in clocks_told[1]}
-    unnamed = _first_unnamed(module, conditions)
+def _clocks_seen(seen, known):
+    """Fills in the clocks of what is Seen of a module that has kinds, or why it has none."""
+    module = seen.module
+    told = clocks_paper(module, known)
+    if told[0] != "clocks":
+        seen.paper = told
+        return
+    seen.conditions = {place: clock[1] for place, clock in told[1]}
+    unnamed = _first_unnamed(module, seen.conditions)
     if unnamed is not None:
-        return Seen(module, None, ("name", unnamed))
-    wants = wants_of(module, conditions, seen)
-    order = order_by(module, wants)
-    if order[0] == "ring":
-        return Seen(module, None, order)
-    clocks = tuple([conditions[x] for x in module[1] + module[2]])
-    face_wants = tuple([ins_led_to(module, wants, out) for out in module[2]])
-    return Seen(module, (_kinds_anew(door_kinds(module, kinds_told)), clocks, face_wants), None)
+        seen.paper = ("name", unnamed)
 
 
-def all_seen(modules):
-    """What is Seen of modules, each behind those that it calls, by their names."""
-    papers = kinds_papers(modules)
-    seen = {}
-    for module in modules:
-        seen[module[0]] = _seen_of(module, papers[module[0]], seen)
+def _wants_seen(seen, kinds_told, known):
+    """Fills in the wants, and the face, of what is Seen of a module whose doors have clocks."""
+    module = seen.module
+    seen.wants = wants_of(module, seen.conditions, known)
+    seen.order = order_by(module, seen.wants)
+    if seen.order[0] == "ring":
+        seen.paper = seen.order
+        return
+    clocks = tuple([seen.conditions[x] for x in module[1] + module[2]])
+    wants = tuple([ins_led_to(module, seen.wants, out) for out in module[2]])
+    seen.face = (_kinds_anew(door_kinds(module, kinds_told)), clocks, wants)
+
+
+def _seen_of(module, kinds_told, known):
+    """What is Seen of a module, by what kinds tells of it and by what is Seen of those that it calls."""
+    seen = Seen(module)
+    if kinds_told[0] != "kinds":
+        seen.paper = kinds_told
+        return seen
+    _clocks_seen(seen, known)
+    if seen.paper is None:
+        _wants_seen(seen, kinds_told, known)
     return seen
+
+
+def seen_among(book, modules):
+    """What is Seen of modules of a book, each behind those that it calls, by their names (and of others)."""
+    known = book.seen
+    lacking = [module for module in modules if module[0] not in known]
+    if lacking:
+        papers = kinds_papers(modules)
+        for module in lacking:
+            known[module[0]] = _seen_of(module, papers[module[0]], known)
+    return known
+
+
+def seen_in(book, name):
+    """What is Seen of a module and of all those that it calls, by their names (and of others)."""
+    if name in book.seen:
+        return book.seen
+    return seen_among(book, called_first(book, name))
+
+
+def faced_in(book, name):
+    """As seen_in, refused where the module has no face."""
+    known = seen_in(book, name)
+    if known[name].face is None:
+        raise NoFace(known[name].paper)
+    return known

@@ -9,10 +9,10 @@ from clockloom.trees import e_at, flows, places
 def others(module):
     """A tuple (place, e, parts) for each place that is no flow."""
     told = []
-    for k, path in places(module):
+    spots = places(module)
+    for k, path in spots:
         e = e_at(module, (k, path))
-        parts = [place for place in places(module) if place[0] == k and place[1][:-1] == path and place[1] and
-                 len(place[1]) == len(path) + 1]
+        parts = [place for place in spots if place[0] == k and place[1] and place[1][:-1] == path]
         told.append(((k, path), e, parts))
     return told
 
@@ -172,6 +172,11 @@ def slow_clocks(book, name):
     return ("clocks", table)
 
 
+def plain_parts(e):
+    """The parts of an expression."""
+    return e[2] if e[0] == "call" else [part for part in e[1 + (e[0] == "then"):] if isinstance(part, tuple)]
+
+
 def reads(e):
     """The flows that an expression wants."""
     if e[0] == "flow":
@@ -179,8 +184,7 @@ def reads(e):
     if e[0] == "then":
         return set()
     told = {e[2]} if e[0] == "when" else {e[1]} if e[0] == "merge" else set()
-    parts = e[2] if e[0] == "call" else [part for part in e[1:] if isinstance(part, tuple)]
-    return told.union(*[reads(part) for part in parts])
+    return told.union(*[reads(part) for part in plain_parts(e)])
 
 
 def slow_wants(book, name, table):

@@ -21,7 +21,19 @@ FUNCTIONS = {
     },
     "kinds": {"kinds": "(book, name)", "kinds_judged": "(book, name, paper)"},
     "clocks": {"clocks": "(book, name)"},
+    "lines": {"clocks_judged": "(book, name, paper)"},
     "faces": {"face": "(book, name)"},
+    "wants": {"wants": "(book, name)", "order": "(book, name)", "order_judged": "(book, name, paper)"},
+    "flat": {
+        "flat": "(book, name)", "flat_name": "(book, name, way, x)",
+        "told_flat": "(flat, beats, *, measure=2147483647)",
+    },
+    "loops": {"loop_judged": "(flat, loop, *, measure=2147483647)"},
+    "looms": {"woven": "(flat, *, measure=2147483647)"},
+    "fusing": {
+        "fused": "(flat, loop, *, measure=2147483647)", "gathered": "(flat, *, measure=2147483647)",
+        "if_count": "(loop)", "few_ifs": "(flat, track)",
+    },
 }
 CLASSES = {
     "words": {"Word": {
@@ -32,8 +44,18 @@ CLASSES = {
         "__init__": "(self, modules, *, measure=2147483647)", "modules": "(self)", "module": "(self, name)",
         "measure": "(self)", "__eq__": "(self, other)", "__len__": "(self)",
     }},
+    "teller": {"Run": {
+        "__init__": "(self, book, name, *, state=())", "feed": "(self, ins)", "flows": "(self)", "back": "(self, many=1)",
+        "copy": "(self)", "state": "(self)", "__len__": "(self)",
+    }},
+    "machines": {"Machine": {
+        "__init__": "(self, flat, loop, *, measure=2147483647)", "feed": "(self, ins)", "done": "(self)", "cells": "(self)",
+        "copy": "(self)", "__len__": "(self)",
+    }},
 }
-CONSTANTS = {"words": {"MOST_SIGNS": 20000}, "trees": {"MOST": 60}, "books": {"MEASURE": 2147483647}}
+CONSTANTS = {
+    "words": {"MOST_SIGNS": 20000}, "trees": {"MOST": 60}, "books": {"MEASURE": 2147483647}, "flat": {"MOST_FLAT": 2000},
+}
 
 
 class Interface(unittest.TestCase):
