@@ -41,7 +41,8 @@ def _choose(worths, spots):
     worths[spots[0]] = worths[spots[2]] if worths[spots[1]] else worths[spots[3]]
 
 
-def _move(worths, spots):
+def move(worths, spots):
+    """What stands at one number comes to another one."""
     worths[spots[0]] = worths[spots[1]]
 
 
@@ -55,11 +56,18 @@ def _sign(worths, spots):
         worths[spots[0]] = again[(place - len(head)) % len(again)] == "1"
 
 
+def go_on(worths, spots):
+    """A cell goes on to the next sign of a word, behind the last one to the again's first one."""
+    head, again = worths[spots[1]]
+    place = worths[spots[0]] + 1
+    worths[spots[0]] = len(head) if place == len(head) + len(again) else place
+
+
 # What is done, and at which places of the deed's tuple its atoms stand, in the order of spots.
 ACTIONS = {
     "sum": _sum, "less": _less, "times": _times, "below": _below, "same": _same, "both": _both,
-    "either": _either, "not": _not, "pick": _choose, "merge": _choose, "when": _move,
-    "num": _move, "truth": _move, "flow": _move, "cell": _move, "sign": _sign,
+    "either": _either, "not": _not, "pick": _choose, "merge": _choose, "when": move,
+    "num": move, "truth": move, "flow": move, "cell": move, "sign": _sign,
 }
 ATOM_SPOTS = {
     "sum": (1, 2), "less": (1, 2), "times": (1, 2), "below": (1, 2), "same": (1, 2), "both": (1, 2),

@@ -97,24 +97,42 @@ def _asked_by(row):
     return names + [c for c, _ in conditions[-1:]]
 
 
+class Waiting:
+    """Rows by their numbers, and for how many of those that they ask for each of them waits."""
+
+    def __init__(self, rows):
+        number_of = {row[0]: number for number, row in enumerate(rows)}
+        asked = [[number_of[x] for x in _asked_by(row) if x in number_of] for row in rows]
+        self._waits = [len(numbers) for numbers in asked]
+        self._behind = [[] for _ in rows]
+        for number, numbers in enumerate(asked):
+            for ahead in numbers:
+                self._behind[ahead].append(number)
+
+    def begin(self):
+        """The numbers of the rows that wait for none."""
+        return [number for number, many in enumerate(self._waits) if many == 0]
+
+    def behind(self, number):
+        """The numbers of the rows that wait for none any more, once that of this number is told."""
+        told = []
+        for other in self._behind[number]:
+            self._waits[other] -= 1
+            if self._waits[other] == 0:
+                told.append(other)
+        return told
+
+
 def _sorted_rows(rows):
     """The rows, each behind those that it asks for, else in the order in which they were made."""
-    number_of = {row[0]: number for number, row in enumerate(rows)}
-    asked = [[x for x in _asked_by(row) if x in number_of] for row in rows]
-    waits = [len(names) for names in asked]
-    behind = [[] for _ in rows]
-    for number, names in enumerate(asked):
-        for x in names:
-            behind[number_of[x]].append(number)
-    ready = [number for number in range(len(rows)) if waits[number] == 0]
+    waiting = Waiting(rows)
+    ready = waiting.begin()
     told = []
     while ready:
         number = heappop(ready)
         told.append(rows[number])
-        for other in behind[number]:
-            waits[other] -= 1
-            if waits[other] == 0:
-                heappush(ready, other)
+        for other in waiting.behind(number):
+            heappush(ready, other)
     return told
 
 
