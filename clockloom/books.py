@@ -2,8 +2,8 @@
 
 from clockloom.errors import NoBook, NoMeasure, NoName
 from clockloom.rings import order_of
-from clockloom.shapes import calls_of
-from clockloom.things import fresh, is_whole
+from clockloom.shapes import calls_of, copied_module
+from clockloom.things import is_whole
 from clockloom.trees import module_wrong
 
 MEASURE = 2147483647
@@ -64,7 +64,7 @@ class Book:
             raise NoBook(wrong)
         if not is_whole(measure) or not 2 <= measure <= 10 ** 12:
             raise NoMeasure("a measure is a whole number from 2 to 10 ** 12")
-        self._table = {module[0]: fresh(module) for module in modules}
+        self._table = {module[0]: copied_module(module) for module in modules}
         self._measure = measure
         # What other files infer of the modules is kept here by names: so it is inferred once.
         self.seen = {}
@@ -72,11 +72,11 @@ class Book:
 
     def modules(self):
         """The list of the modules."""
-        return [fresh(self._table[name]) for name in self._table]
+        return [copied_module(self._table[name]) for name in self._table]
 
     def module(self, name):
         """The module of this name."""
-        return fresh(self.held(name))
+        return copied_module(self.held(name))
 
     def held(self, name):
         """The module of this name as it is kept: nothing may change it, nor tell its lists."""

@@ -70,14 +70,39 @@ def by_form(thing):
 
 def parts_of(e):
     """The parts of an expression, in order."""
-    if e[0] == "call":
-        return list(e[2])
-    return [e[spot] for spot in PART_SPOTS.get(e[0], ())]
+    word = e[0]
+    if word in PART_SPOTS:
+        return [e[spot] for spot in PART_SPOTS[word]]
+    return list(e[2]) if word == "call" else []
 
 
 def parts_with_paths(path, e):
     """A tuple (path, part) for each part of the expression at a path, the last one first."""
-    return [((*path, i), part) for i, part in enumerate(parts_of(e))][::-1]
+    parts = parts_of(e)
+    return [((*path, i), parts[i]) for i in range(len(parts) - 1, -1, -1)]
+
+
+def part_at(e, path):
+    """The expression at the end of a path, None where there is none."""
+    for i in path:
+        parts = parts_of(e)
+        if not 0 <= i < len(parts):
+            return None
+        e = parts[i]
+    return e
+
+
+def copied_e(e):
+    """An expression with new lists; those of calls alone have any, and calls stand as wholes alone."""
+    if e[0] == "call":
+        return ("call", e[1], list(e[2]))
+    return e
+
+
+def copied_module(module):
+    """A module with new lists."""
+    name, ins, outs, rows = module
+    return (name, ins, outs, [(targets, copied_e(e)) for targets, e in rows])
 
 
 def name_in(e):
@@ -100,16 +125,21 @@ def with_part(e, path, thing):
     return e[:spot] + (with_part(e[spot], path[1:], thing),) + e[spot + 1:]
 
 
-def walk(rows):
-    """A tuple (k, path, e) for each place, rows rising, each expression ahead of its parts."""
+def walk_row(whole):
+    """A tuple (path, e) for each place of a row's expression, each ahead of its parts."""
     told = []
-    for k, (_, whole) in enumerate(rows):
-        left = [((), whole)]
-        while left:
-            path, e = left.pop()
-            told.append((k, path, e))
+    left = [((), whole)]
+    while left:
+        path, e = left.pop()
+        told.append((path, e))
+        if e[0] in PART_SPOTS or e[0] == "call":
             left.extend(parts_with_paths(path, e))
     return told
+
+
+def walk(rows):
+    """A tuple (k, path, e) for each place, rows rising, each expression ahead of its parts."""
+    return [(k, path, e) for k, (_, whole) in enumerate(rows) for path, e in walk_row(whole)]
 
 
 def places_below(k, path, e):
