@@ -76,6 +76,7 @@ class Forms(Judged):
             ("inner", "m", 0), ("inner", "abcdefghi"), ("plain", 0), ("plain", 0, 0, 0), ("plain", True, 0),
             ("plain", 0, False), ("plain", -1, 0), ("plain", 0, -1), ("plain", "0", 0), ("plain", None, 0),
             ("kinds", []), (0, []), (None, []), ([], []), ("plain", ["a"], 0),
+            ("lines", [(("same", "a", "c"), ("row", 0)), ("two", 0, 0)]), ("plain", [("two", 0, 0)]),
         ):
             self.assertEqual(self.told(paper, text), ("paper",), paper)
         self.assertEqual(self.told(("clocks", []), text), ("table",))
@@ -94,6 +95,7 @@ class Forms(Judged):
             (0, (("same", (False, ()), "a"), row)), (0, (("same", (0, (True,)), "a"), row)),
             (0, (("same", "a", [0, ()]), row)), (0, (("same", "a", (0, [])), row)), (0, (("same", "a", 0), row)),
             (0, (("same", "a", "c", True), row)), (0, (("under", "a", "c"), row)), (0, (("over", "a", "c"), row)),
+            (0, (("same", "a", "c", "x"), row)), (0, (("under", "a", "c", True), row)), (1, (("over", "a", "c"), row)),
             (0, (("over", "a", "c", 1), row)), (0, (("over", "a", "c", None), row)),
             (0, (("over", "a", (0, ()), True), row)), (0, (("over", "a", "z", True), row)),
             (0, (("over", ["a"], "c", True), row)), (0, (("over", "a", ["c"], True), row)), (0, (None, row)),
@@ -237,7 +239,7 @@ class Reasons(Judged):
             self.line(1, (fact, ("row", 0)))
             self.line(0, (fact, ("row", 1)))
         for fact in (("same", "x", self.ONE), ("same", "x", "x"), ("over", self.ONE, "c", False),
-                     ("over", "x", "c", True), ("over", self.ONE, "d", True), ("same", "a", "c")):
+                     ("over", "x", "c", True), ("over", self.ONE, "d", True), ("same", "a", "c"), ("same", "c", self.ONE)):
             self.line(0, (fact, ("row", 0)))
 
     def test_turn(self):
@@ -250,6 +252,15 @@ class Reasons(Judged):
         self.line(1, (over, ("row", 0)), (("same", "c", self.ONE), ("turn", 0)))
         self.line(1, (fact, ("row", 0)), (("over", (0, ()), "c", True), ("turn", 0)))
 
+    def test_a_line_does_not_stand_on_itself(self):
+        fact, over = ("same", "x", "x"), ("over", "x", "x", True)
+        for reason in (("turn", 0), ("chain", 0, 0)):
+            self.line(0, (fact, reason))
+            self.line(1, (("same", "x", (0, ())), ("row", 0)), (fact, (reason[0],) + (1,) * (len(reason) - 1)))
+        self.line(2, (("same", "x", (0, ())), ("row", 0)), (("same", (0, ()), "x"), ("turn", 0)), (over, ("carry", 2, 2)))
+        self.line(1, (("same", "x", (0, ())), ("row", 0)), (over, ("carry", 0, 1)))
+        self.line(0, (fact, ("join", 0, 0)))
+
     def test_chain(self):
         one, other = (("same", "x", (0, ())), ("row", 0)), (("same", (0, ()), self.ONE), ("row", 0))
         over = (("over", self.ONE, "c", True), ("row", 0))
@@ -259,6 +270,7 @@ class Reasons(Judged):
             self.line(2, one, other, (made, ("chain", i, j)))
         self.line(2, one, other, (("same", self.ONE, "x"), ("chain", 0, 1)))
         self.line(2, one, other, (("same", "x", self.OTHER), ("chain", 0, 1)))
+        self.line(2, one, (("same", "c", self.A), ("row", 0)), (("same", "x", self.A), ("chain", 0, 1)))
         self.line(2, one, over, (made, ("chain", 0, 1)))
         self.line(2, other, over, (("same", (0, ()), "c"), ("chain", 0, 1)))
         self.line(2, over, other, (made, ("chain", 0, 1)))
@@ -271,6 +283,7 @@ class Reasons(Judged):
         for i, j in ((1, 0), (0, 0), (1, 1), (0, 2), (2, 1), (0, 7)):
             self.line(2, same, over, (made, ("carry", i, j)))
         self.line(2, same, over, (("over", (0, ()), "c", False), ("carry", 0, 1)))
+        self.line(1, (("over", "x", "x", True), ("row", 0)), (("over", "x", "x", True), ("carry", 0, 0)), text=STRAIGHT)
         self.line(2, same, over, (("over", (0, ()), "d", True), ("carry", 0, 1)))
         self.line(2, same, over, (("over", "x", "c", True), ("carry", 0, 1)))
         self.line(2, same, over, (("same", (0, ()), "c"), ("carry", 0, 1)))
@@ -287,6 +300,8 @@ class Reasons(Judged):
         for i, j in ((5, 2), (2, 2), (2, 3), (1, 5), (2, 4), (2, 6), (6, 5)):
             self.line(6, *begin, (made, ("join", i, j)), text=JOIN)
         self.line(6, *begin, (("over", "p", "q", True), ("join", 2, 5)), text=JOIN)
+        sames = [(("same", "x", (0, ())), ("row", 0)), (("same", self.ONE, (0, ())), ("row", 0))]
+        self.line(2, *sames, (("same", "x", self.ONE), ("join", 0, 1)))
         apart = (("over", (2, (1,)), "d", True), ("row", 2))
         self.line(7, *begin, apart, (("same", "p", (2, (1,))), ("join", 2, 6)), text=JOIN)
 
