@@ -10,8 +10,10 @@ def _nearest(ready, ahead):
     best = None
     for conditions in ready:
         shared, same = shared_ifs(ahead, conditions)
-        # To stay within an if goes ahead of leaving it, its second list ahead of what is outside.
-        rank = (-same, -shared, len(conditions), ready[conditions][0])
+        # To stay within an if goes ahead of leaving it, its second list ahead of what is outside; an
+        # if is begun by its first list, where that may be, as none can come back to it.
+        second = len(conditions) > shared and not conditions[shared][1]
+        rank = (-same, -shared, second, len(conditions), ready[conditions][0])
         if best is None or rank < best:
             best = rank
             told = conditions

@@ -30,9 +30,7 @@ def fresh(thing):
 
 
 def alike(one, other):
-    """Whether two things are the same, a truth never the same as a number; lists are never."""
+    """Whether two things, of which one has no lists, are the same, a truth never the same as a number."""
     if isinstance(one, tuple) and isinstance(other, tuple):
         return len(one) == len(other) and all([alike(part, beside) for part, beside in zip(one, other)])
-    if isinstance(one, (tuple, list)) or isinstance(other, (tuple, list)):
-        return False
     return isinstance(one, bool) == isinstance(other, bool) and one == other

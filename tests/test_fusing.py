@@ -188,6 +188,16 @@ class Gathered(unittest.TestCase):
             fewer += if_count(loop) < if_count(other)
         self.assertGreater(fewer, 20)
 
+    def test_where_the_order_of_rows_is_hard_to_beat(self):
+        # By going on where one stands, the first row over e would be told ahead of what the other one needs.
+        text = "MODULE m () OUT (e)\ne = TRUE\nf = e\ng = ((MERGE f 7 (1 - 2)) WHEN e)\nh = (1 WHEN e)"
+        told = flat(book_of(text), "m")
+        self.assertEqual((if_count(woven(told)), if_count(gathered(told))), (2, 2))
+
+    def test_first_lists_go_ahead(self):
+        text = "MODULE m (c, d) OUT (x)\nx = (MERGE c (MERGE d 7 (3 THEN (4 UNLESS d))) (5 UNLESS c))\ny = (1 UNLESS c)"
+        self.assertEqual(if_count(gathered(flat(book_of(text), "m"))), 2)
+
     def test_rows_at_the_same_conditions_come_together(self):
         calls = "\n".join(f"x{y}, y{y} = s(a, c)" for y in "abcdefgh")
         told = flat(book_of(SPLIT, "MODULE m (a, c) OUT (xa, ya)\n" + calls), "m")

@@ -108,6 +108,10 @@ class Language(unittest.TestCase):
                 if isinstance(node, ast.Constant) and isinstance(node.value, float):
                     self.fail(f"{path.name}:{node.lineno}: a float")
 
+    def test_functions_of_tables_get_a_name_ahead_of_their_call(self):
+        for name, node in self.each(ast.Call):
+            self.assertIsInstance(node.func, (ast.Name, ast.Attribute), (name, node.lineno))
+
     def test_is_with_none_and_truths_alone(self):
         for name, node in self.each(ast.Compare):
             for sign, beside in zip(node.ops, node.comparators):

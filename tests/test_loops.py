@@ -203,7 +203,8 @@ class Steps(Judged):
                          ["num", 1], ("num", [1]), ("both", ("flow", "c"), ("truth", 1)), ("cell", "u"), ("sign", "t"),
                          ("cell", "t"), ("sign", "u"), ("merge", "c", ("num", 1), ("num", 2)), ("beats", "", "1"),
                          ("merge", "c", ("num", True), ("num", 2)), ("then", ("num", 5), ("num", 1)), ("less", ("flow", "a"), ("num", 1)),
-                         ("when", ("num", 1), "c", True), ("same", ("flow", "b"), ("truth", 0)), ("sum", ("flow", "a"), ["num", 1])):
+                         ("when", ("num", 1), "c", True), ("same", ("flow", "b"), ("truth", 0)), ("sum", ("flow", "a"), ["num", 1]),
+                         step[2] + (0,), step[2][:-1], (step[2][:-1] + (step[2][-1:],)), list(step[2])):
                 if repr(deed) == repr(step[2]):
                     continue
                 other = woven(told)

@@ -42,6 +42,15 @@ def nested(deep):
     return e
 
 
+def broad(many):
+    """An expression of so many expressions, in as few levels as may be."""
+    if many == 1:
+        return A
+    if many == 2:
+        return ("not", A)
+    return ("both", broad((many - 1) // 2), broad(many - 1 - (many - 1) // 2))
+
+
 class ModuleWrong(unittest.TestCase):
     def wrong(self, thing, told):
         found = module_wrong(thing)
@@ -49,6 +58,38 @@ class ModuleWrong(unittest.TestCase):
         with self.assertRaises(NoModule) as caught:
             flows(thing)
         self.assertEqual(repr(caught.exception.wrong), repr(told))
+
+    def test_rows_of_several_targets_by_what_is_wrong_first(self):
+        for whole, told in (
+            (5, ("place", 0, ())), ((), ("place", 0, ())), (None, ("place", 0, ())), ([], ("place", 0, ())),
+            (("call",), ("place", 0, ())), (("call", "q", [5]), ("place", 0, (0,))), (A, ("call", 0, ())),
+            (("sum", A, A), ("call", 0, ())), (("call", "q", [("flow", "zz")]), ("flow", 0, (0,))),
+            (("call", "q", [("sum", A, ("flow", "zz"))]), ("flow", 0, (0, 1))),
+            (("call", "q", [("call", "q", [])]), ("call", 0, (0,))),
+        ):
+            self.wrong(of_rows((("x", "y"), whole), (("z",), A)), told)
+
+    def test_sizes_go_ahead_of_names_and_calls(self):
+        unknown = ("sum", ("flow", "zz"), ("call", "q", [ONE]))
+        for many, last, told in (
+            (196, unknown, ("call", 1, (1,))), (197, unknown, ("size",)), (197, ("sum", ("flow", "zz"), ONE), ("flow", 1, (0,))),
+            (198, ("sum", ("flow", "zz"), ONE), ("size",)), (199, ("flow", "zz"), ("flow", 1, ())),
+            (200, ("flow", "zz"), ("size",)), (200, A, ("size",)), (3, nested(9), ("size",)),
+            (3, ("both", ("flow", "zz"), nested(7)), ("flow", 1, (0,))), (3, ("both", ("flow", "zz"), nested(8)), ("size",)),
+        ):
+            self.wrong(of_rows((("x",), broad(many)), (("z",), last)), told)
+        self.assertIsNone(module_wrong(of_rows((("x",), broad(199)), (("z",), A))))
+
+    def test_with_e_of_as_many_as_may_be(self):
+        module = of_rows((("x",), broad(197)), (("z",), ("sum", A, ONE)))
+        self.assertEqual(len(places(module)), 200)
+        self.assertEqual(with_e(module, (1, (0,)), ONE), of_rows((("x",), broad(197)), (("z",), ("sum", ONE, ONE))))
+        self.assertEqual(len(places(with_e(module, (1, ()), ONE))), 198)
+        self.assertEqual(with_e(module, (1, ()), ("times", ONE, A))[3][1], (("z",), ("times", ONE, A)))
+        for place in ((1, (0,)), (0, ())):
+            with self.assertRaises(NoModule) as caught:
+                with_e(module, place, broad(199))
+            self.assertEqual(caught.exception.wrong, ("size",))
 
     def test_modules(self):
         for module in (of_rows(ROW), EVERYTHING, ("abcdefgh", (), ("x",), [(("x",), ONE)])):
