@@ -23,7 +23,7 @@ class Line:
 
     def sign(self):
         """The next sign, a text without signs where there is none."""
-        return self.text[self.at:self.at + 1]
+        return self.text[self.at] if self.at < len(self.text) else ""
 
     def break_off(self):
         """Refuses the line, which goes wrong at the next sign."""
@@ -31,6 +31,9 @@ class Line:
 
     def take(self, text):
         """Reads just this text."""
+        if self.text.startswith(text, self.at):
+            self.at += len(text)
+            return
         for sign in text:
             if self.sign() != sign:
                 self.break_off()

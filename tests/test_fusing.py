@@ -126,6 +126,12 @@ class Fused(unittest.TestCase):
         self.assertEqual(fused(told, loop), ([], [
             ("if", "c", [], [sets["y"], sets["2-0"]]), ("if", "c", [sets["x"]], [("if", "y", [sets["v"]], [])]), sets["z"]]))
 
+    def test_cells_are_told_anew(self):
+        told = flat(book_of("MODULE m () OUT (x)\nx = (9 THEN 1)"), "m")
+        loop = woven(told)
+        fused(told, loop)[0].clear()
+        self.assertEqual(loop[0], [("x", 9)])
+
     def test_refused(self):
         told = flat(book_of(TEXT), "m")
         for thing in ANYTHING + (([], []), ([("x", 0)], []), ([], [("go", "x")]), ([], [("if", "c", [("go", "x")], [])])):
