@@ -127,6 +127,15 @@ class Spots:
             return (self.flow(x), self.flow(deed[1]), *atoms)
         return (self.flow(x), *atoms)
 
+    def worths(self, cells, held, ins, handed):
+        """All worths at the begin of a beat: what cells hold, what is handed in, else what is ever so."""
+        told = list(self.begin)
+        for spot, worth in zip(cells, held):
+            told[spot] = worth
+        for x, spot in ins:
+            told[spot] = handed[x]
+        return told
+
 
 def set_deed(x, deed):
     """The deed in a loop's set of a row: that of the row, but of a then its cell, of a when its

@@ -1,11 +1,11 @@
 """Ifs put together: loops with as few ifs as their tracks allow, and tracks that allow few."""
 
 from clockloom.books import MEASURE
-from clockloom.cells import cells_of
 from clockloom.errors import NoLoop
+from clockloom.flatfacts import cells_of, conditions_by_name
 from clockloom.gathering import gathered_rows
 from clockloom.loops import loop_judged
-from clockloom.tracks import conditions_by_name, many_ifs, steps_of, track_by_rows, track_of
+from clockloom.tracks import many_ifs, steps_of, track_by_rows, track_of
 
 
 def fused(flat, loop, *, measure=MEASURE):

@@ -1,7 +1,7 @@
 """Rows put into an order in which those that stand at the same conditions stand together."""
 
-from clockloom.flattening import Waiting
 from clockloom.tracks import shared_ifs
+from clockloom.waiting import Waiting
 
 
 def _nearest(ready, ahead):

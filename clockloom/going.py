@@ -13,8 +13,8 @@ class Plan:
     def __init__(self, flat, measure):
         ins, outs, rows = flat
         spots = Spots(measure)
-        self.ins = [(x, spots.flow(x)) for x, _, _ in ins]
-        self.outs = [(out, spots.flow(x)) for out, x in outs]
+        self._ins = [(x, spots.flow(x)) for x, _, _ in ins]
+        self._outs = [(out, spots.flow(x)) for out, x in outs]
         self.cell_names = [x for x, deed, _ in rows if deed[0] in ("then", "beats")]
         self.cell_begins = tuple([
             first_worth(deed[1], measure) if deed[0] == "then" else 0
@@ -48,11 +48,7 @@ class Plan:
 
     def beat(self, cells, handed):
         """All worths at a beat, of ins that are right, and what the cells hold behind it."""
-        worths = list(self._spots.begin)
-        for spot, held in zip(self._cells, cells):
-            worths[spot] = held
-        for x, spot in self.ins:
-            worths[spot] = handed[x]
+        worths = self._spots.worths(self._cells, cells, self._ins, handed)
         for test, truth, action, spots in self._rows:
             if test is None or worths[test] == truth:
                 action(worths, spots)
@@ -64,4 +60,4 @@ class Plan:
 
     def told_outs(self, worths):
         """A dict of the outs, in order, of what beat tells."""
-        return {out: worths[spot] for out, spot in self.outs}
+        return {out: worths[spot] for out, spot in self._outs}

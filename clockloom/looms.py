@@ -1,8 +1,8 @@
 """Looms: one loop woven of a flat module."""
 
 from clockloom.books import MEASURE
-from clockloom.cells import cells_of
-from clockloom.tracks import conditions_by_name, steps_of, track_by_rows
+from clockloom.flatfacts import cells_of, conditions_by_name
+from clockloom.tracks import steps_of, track_by_rows
 
 
 def woven(flat, *, measure=MEASURE):

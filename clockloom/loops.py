@@ -1,11 +1,9 @@
 """A judge of loops, which knows nothing of their making."""
 
 from clockloom.books import MEASURE
-from clockloom.cells import cells_of
 from clockloom.deeds import set_deed
-from clockloom.flattening import names_in_deed
+from clockloom.flatfacts import cells_of, conditions_by_name, names_in_deed
 from clockloom.things import alike
-from clockloom.tracks import conditions_by_name
 
 # How many things stand in the tuple of each step.
 SIZES = {"set": 3, "keep": 3, "go": 2, "if": 4}

@@ -60,11 +60,7 @@ class Code:
 
     def beat(self, held, handed):
         """What the outs are, what the cells hold behind it, and how many steps were done."""
-        worths = list(self._spots.begin)
-        for spot, worth in zip(self._cells, held):
-            worths[spot] = worth
-        for x, spot in self._ins:
-            worths[spot] = handed[x]
+        worths = self._spots.worths(self._cells, held, self._ins, handed)
         rows = self._rows
         at = 0
         done = 0

@@ -6,15 +6,6 @@ Ifs may lie in one another deeper than calls may, so nothing here calls itself.
 from clockloom.deeds import set_deed
 
 
-def conditions_by_name(flat):
-    """The conditions of each in and of each row, by their flat names."""
-    ins, _, rows = flat
-    told = {x: conditions for x, _, conditions in ins}
-    for x, _, conditions in rows:
-        told[x] = conditions
-    return told
-
-
 def shared_ifs(ahead, behind):
     """How many ifs a step at some conditions shares with the one ahead, and of these how many in the same list."""
     same = 0
