@@ -125,21 +125,23 @@ def with_part(e, path, thing):
     return e[:spot] + (with_part(e[spot], path[1:], thing),) + e[spot + 1:]
 
 
-def walk_row(whole):
-    """A tuple (path, e) for each place of a row's expression, each ahead of its parts."""
-    told = []
-    left = [((), whole)]
-    while left:
-        path, e = left.pop()
-        told.append((path, e))
-        if e[0] in PART_SPOTS or e[0] == "call":
-            left.extend(parts_with_paths(path, e))
-    return told
+def _walk_into(told, k, path, e):
+    """Tells an expression, then its parts. Expressions of modules lie in one another but a few deep."""
+    told.append((k, path, e))
+    if e[0] in PART_SPOTS:
+        for i, spot in enumerate(PART_SPOTS[e[0]]):
+            _walk_into(told, k, (*path, i), e[spot])
+    elif e[0] == "call":
+        for i, part in enumerate(e[2]):
+            _walk_into(told, k, (*path, i), part)
 
 
 def walk(rows):
     """A tuple (k, path, e) for each place, rows rising, each expression ahead of its parts."""
-    return [(k, path, e) for k, (_, whole) in enumerate(rows) for path, e in walk_row(whole)]
+    told = []
+    for k, (_, whole) in enumerate(rows):
+        _walk_into(told, k, (), whole)
+    return told
 
 
 def places_below(k, path, e):

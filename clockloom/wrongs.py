@@ -1,7 +1,7 @@
 """What is wrong of a thing that is to be a module, the first of all in their order."""
 
 from clockloom.fitting import MOST_EXPRESSIONS, MOST_WITHIN, many_fitting
-from clockloom.shapes import by_form, flows_of, name_in, parts_of, parts_with_paths, targets_of, walk_row
+from clockloom.shapes import by_form, flows_of, name_in, parts_of, parts_with_paths, targets_of, walk
 from clockloom.things import is_name
 
 MOST_ROWS = 60
@@ -86,7 +86,7 @@ def _size_wrong(rows, counts):
 
 def _calls_wrong(rows, suspects):
     for k in suspects:
-        for path, e in walk_row(rows[k][1]):
+        for _, path, e in walk([rows[k]]):
             if path and e[0] == "call":
                 return ("call", k, path)
             if not path and e[0] != "call" and len(rows[k][0]) > 1:
@@ -105,7 +105,7 @@ def _told_wrong(module):
 
 def _names_wrong(rows, suspects, known):
     for k in suspects:
-        for path, e in walk_row(rows[k][1]):
+        for _, path, e in walk([rows[k]]):
             x = name_in(e)
             if x is not None and x not in known:
                 return ("flow", k, path)
