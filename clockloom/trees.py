@@ -4,7 +4,7 @@ from clockloom.errors import NoModule, NoPlace
 from clockloom.fitting import MOST_EXPRESSIONS, many_fitting
 from clockloom.shapes import copied_e, copied_module, flows_of, part_at, walk, with_part
 from clockloom.things import is_whole
-from clockloom.wrongs import inner_wrong, many_right, outer_wrong
+from clockloom.wrongs import inner_wrong, many_right, outer_wrong, row_wrong
 
 MOST = 60
 
@@ -72,13 +72,13 @@ def with_e(module, place, e):
     rows = list(rows)
     ahead = rows[k]
     rows[k] = (ahead[0], with_part(ahead[1], path, e))
-    told = (name, ins, outs, rows)
     # Only what stands in this row, and the size of all, can have become wrong.
     known = {x: True for x in flows_of(module)}
+    many -= many_fitting([ahead], known)
     count = many_fitting([rows[k]], known)
-    if count is None or many - many_fitting([ahead], known) + count > MOST_EXPRESSIONS:
-        raise NoModule(inner_wrong(told))
-    return copied_module(told)
+    if count is None or many + count > MOST_EXPRESSIONS:
+        raise NoModule(row_wrong(rows, k, many, known))
+    return copied_module((name, ins, outs, rows))
 
 
 def flows(module):

@@ -72,9 +72,8 @@ def _forms_wrong(rows, suspects):
     return None
 
 
-def _size_wrong(rows, counts):
-    left = [(1, rows[k][1]) for k, count in enumerate(counts) if count is None]
-    many = sum([count for count in counts if count is not None])
+def _size_wrong(rows, suspects, many):
+    left = [(1, rows[k][1]) for k in suspects]
     while left and many <= MOST_EXPRESSIONS:
         within, e = left.pop()
         many += 1
@@ -120,6 +119,11 @@ def _outs_wrong(module):
     return None
 
 
+def _trees_wrong(rows, suspects, many):
+    """What is wrong of the rows' trees, where none but the suspects can be, the others having many expressions."""
+    return _forms_wrong(rows, suspects) or _size_wrong(rows, suspects, many) or _calls_wrong(rows, suspects)
+
+
 def inner_wrong(module):
     """What is wrong further on, None where nothing is."""
     rows = module[3]
@@ -127,8 +131,13 @@ def inner_wrong(module):
     counts = [many_fitting([row], known) for row in rows]
     # Only those rows that don't fit are looked at place by place.
     suspects = [k for k, count in enumerate(counts) if count is None]
-    wrong = _forms_wrong(rows, suspects) or _size_wrong(rows, counts) or _calls_wrong(rows, suspects)
+    wrong = _trees_wrong(rows, suspects, sum([count for count in counts if count is not None]))
     return wrong or _told_wrong(module) or _names_wrong(rows, suspects, known) or _outs_wrong(module)
+
+
+def row_wrong(rows, k, many, known):
+    """What is wrong where nothing but row k's expression can be, the others having many expressions."""
+    return _trees_wrong(rows, [k], many) or _names_wrong(rows, [k], known)
 
 
 def many_right(module):

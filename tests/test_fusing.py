@@ -204,6 +204,17 @@ class Gathered(unittest.TestCase):
         text = "MODULE m (c, d) OUT (x)\nx = (MERGE c (MERGE d 7 (3 THEN (4 UNLESS d))) (5 UNLESS c))\ny = (1 UNLESS c)"
         self.assertEqual(if_count(gathered(flat(book_of(text), "m"))), 2)
 
+    def test_few_ifs_by_hand(self):
+        for rows, plain, few in (
+            ("y = (1 UNLESS c)\nx = (a WHEN c)", 2, 1),
+            ("x = (a WHEN c)\nz = (MERGE c x 0)\ny = (1 UNLESS c)", 2, 1),
+            ("x = (a WHEN c)\ny = (1 UNLESS c)\nz = (2 WHEN c)\nv = (3 UNLESS c)\nu = (a + 1)", 2, 1),
+            ("x = (a WHEN c)\nu = (a + 1)\nz = (2 WHEN c)", 2, 1),
+            ("x = (d WHEN c)\ny = (1 WHEN x)\nu = (a + 1)\nz = (2 UNLESS c)\nv = (3 UNLESS x)", 5, 2),
+        ):
+            told = flat(book_of("MODULE m (a, c, d) OUT (t)\nt = (a + 1)\n" + rows), "m")
+            self.assertEqual((if_count(woven(told)), if_count(gathered(told))), (plain, few), rows)
+
     def test_rows_at_the_same_conditions_come_together(self):
         calls = "\n".join(f"x{y}, y{y} = s(a, c)" for y in "abcdefgh")
         told = flat(book_of(SPLIT, "MODULE m (a, c) OUT (xa, ya)\n" + calls), "m")
@@ -219,6 +230,21 @@ class Gathered(unittest.TestCase):
         loop = gathered(told)
         self.assertEqual(if_count(fused(told, loop)), 36 * 27)
         self.assertLess(time.monotonic() - begin, 10)
+
+    def test_told_soon_within_many_ifs(self):
+        # Many lists in which rows are ready, all of them hundreds of ifs within one another.
+        names = [one + other for one in "bdefg" for other in "abcdefghij"]
+        chain = "\n".join(f"{x} = (TRUE WHEN {y})" for x, y in zip(names, ["c"] + names))
+        wide = "\n".join(f"c{x} = (BEATS (1))\nx{x} = (1 WHEN c{x})" for x in names[:24])
+        texts = ["MODULE na (c) OUT (z)\nz = c\n" + wide,
+                 "MODULE nb (c) OUT (z)\nz = c\n" + "\n".join(f"v{x} = na(c)" for x in names[:30])]
+        for name, below in zip(["m" + x for x in "abcdefghi"], ["nb"] + ["m" + x for x in "abcdefgh"]):
+            texts.append(f"MODULE {name} (c) OUT (z)\nz = c\n{chain}\nv = {below}((TRUE WHEN {names[-1]}))")
+        told = flat(book_of(*texts), "mi")
+        self.assertEqual((len(told[2]), max(len(conditions) for _, _, conditions in told[2])), (1939, 460))
+        begin = time.monotonic()
+        self.assertEqual(if_count(gathered(told)), 459 + 24 * 30)
+        self.assertLess(time.monotonic() - begin, 5)
 
 
 if __name__ == "__main__":

@@ -1,6 +1,7 @@
 """A module of sixty rows nested as deep as they may be, asked at each of its places (8, 9, 11, 12)."""
 
 import unittest
+from random import Random
 
 from clockloom.errors import NoModule
 from clockloom.texts import module_text, read_module
@@ -153,6 +154,21 @@ class AtEachPlace(unittest.TestCase):
                 deep = ("not", deep)
             self.refused(place, deep, ("size",))
 
+    def test_several_things_wrong_at_once(self):
+        found = {}
+        chance = Random(7)
+        for place, _ in self.spots * 3:
+            thing = wrong_one(chance, chance.randrange(1, 5))
+            rows = list(self.module[3])
+            rows[place[0]] = (rows[place[0]][0], put(rows[place[0]][1], place[1], thing))
+            told = module_wrong(self.module[:3] + (rows,))
+            found[told and told[0]] = True
+            if told is None:
+                self.assertEqual(with_e(self.module, place, thing), self.module[:3] + (rows,))
+            else:
+                self.refused(place, thing, told)
+        self.assertEqual(set(found), {None, "place", "size", "call", "flow"})
+
     def test_one_that_makes_it_too_large(self):
         left = 200 - len(self.spots)
         for (k, path), node in self.spots:
@@ -177,6 +193,27 @@ def wide(many, deep):
     half = (many - 1) // 2
     parts = (wide(half, deep - 1), wide(many - 1 - half, deep - 1))
     return None if None in parts else ("both",) + parts
+
+
+def wrong_one(chance, deep):
+    """An expression in which much may be wrong."""
+    if deep == 1 or chance.random() < 0.2:
+        return chance.choice((("num", 1), ("flow", "a"), ("flow", "xb"), ("flow", "zz"), ("call", "q", []), ("num", -1)))
+    word = chance.choice(("not", "sum", "when", "merge", "pick", "wide") + ("call",) * (chance.random() < 0.3))
+    some = [wrong_one(chance, deep - 1) for _ in range(3)]
+    return {"not": ("not", some[0]), "sum": ("sum", *some[:2]), "when": ("when", some[0], chance.choice(("a", "zz")), True),
+            "merge": ("merge", "b", *some[:2]), "pick": ("pick", *some), "call": ("call", "q", some),
+            "wide": ("both", some[0], wide(31, 5))}[word]
+
+
+def put(e, path, thing):
+    """The expression with a thing at the end of a path."""
+    if not path:
+        return thing
+    if e[0] == "call":
+        return e[:2] + ([put(part, path[1:], thing) if i == path[0] else part for i, part in enumerate(e[2])],)
+    spots = [spot for spot in range(1, len(e)) if isinstance(e[spot], tuple) and (e[0], spot) != ("then", 1)]
+    return tuple(put(part, path[1:], thing) if spot == spots[path[0]] else part for spot, part in enumerate(e))
 
 
 if __name__ == "__main__":
