@@ -69,6 +69,7 @@ class Book:
         # What other files infer of the modules is kept here by names: so it is inferred once.
         self.seen = {}
         self.grounds = {}
+        self.words = {}
 
     def modules(self):
         """The list of the modules."""
@@ -84,6 +85,10 @@ class Book:
             raise NoName(name)
         return self._table[name]
 
+    def has(self, name):
+        """Whether a thing is the name of one of the modules."""
+        return isinstance(name, str) and name in self._table
+
     def measure(self):
         """The measure."""
         return self._measure
@@ -93,6 +98,20 @@ class Book:
 
     def __len__(self):
         return len(self._table)
+
+
+def know_as(book, other):
+    """Makes known of a book what is inferred of those modules of another one, of the same measure,
+    that are just so in both, with all that they call."""
+    leads = {module[0]: _called(module) for module in book.modules()}
+    same = {}
+    for name in order_of(leads)[1]:
+        same[name] = other.has(name) and other.held(name) == book.held(name)
+        same[name] = same[name] and all([same[below] for below in leads[name]])
+        if same[name]:
+            for mine, known in ((book.seen, other.seen), (book.grounds, other.grounds), (book.words, other.words)):
+                if name in known:
+                    mine[name] = known[name]
 
 
 def called_first(book, name):

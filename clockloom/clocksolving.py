@@ -34,7 +34,7 @@ class Lines:
         j = self._straight_over(other, label)
         return self._number(fact, ("join", i, j))
 
-    def over(self, way, label):
+    def line_over(self, way, label):
         """The line that the first place of a way is over the label, the last one being so straight."""
         line = self._straight_over(way[-1], label)
         for at in range(len(way) - 2, -1, -1):
@@ -65,8 +65,8 @@ def _two_clash(links, lots):
             begin = links.below[labels[0]][0]
             way, label = _way_to_label(links, begin, labels[1:])
             lines = Lines(links)
-            i = lines.over([begin], labels[0])
-            j = lines.over(way, label)
+            i = lines.line_over([begin], labels[0])
+            j = lines.line_over(way, label)
             return lines.with_clash(("two", i, j))
     return None
 
@@ -95,7 +95,7 @@ def _within_clash(links, ring, label_of):
     for number in ring:
         label = label_of[number]
         way, _ = _way_to_label(links, ahead, [label])
-        some.append(lines.over(way, label))
+        some.append(lines.line_over(way, label))
         ahead = label[0]
     return lines.with_clash(("within", some))
 

@@ -85,7 +85,7 @@ def _deed(within, k, path, e):
 def _sorted_rows(rows):
     """The rows, each behind those that it asks for, else in the order in which they were made."""
     waiting = Waiting(rows)
-    ready = waiting.begin()
+    ready = waiting.first_ones()
     told = []
     while ready:
         number = heappop(ready)

@@ -75,7 +75,7 @@ def gathered_rows(rows):
     """The rows, each behind those that it asks for, else where no if needs to be left for it."""
     waiting = Waiting(rows)
     ready = Ready(rows)
-    for number in waiting.begin():
+    for number in waiting.first_ones():
         ready.make_ready(number)
     told = []
     at = 0

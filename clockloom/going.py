@@ -52,11 +52,26 @@ class Plan:
         for test, truth, action, spots in self._rows:
             if test is None or worths[test] == truth:
                 action(worths, spots)
+        return (worths, self.cells_behind(worths, cells))
+
+    def worths_ahead(self, cells):
+        """All worths ahead of a beat of which no in is handed in and no row is done."""
+        return self._spots.worths(self._cells, cells, [], {})
+
+    def do_rows(self, worths, numbers):
+        """Does some rows, by their numbers, of a beat all of whose worths that they ask for are there."""
+        for number in numbers:
+            test, truth, action, spots = self._rows[number]
+            if test is None or worths[test] == truth:
+                action(worths, spots)
+
+    def cells_behind(self, worths, cells):
+        """What the cells hold behind a beat all of whose rows are done."""
         held_next = list(cells)
         for number, (spot, kept) in enumerate(self._keeps):
             if worths[spot] is not None:
                 held_next[number] = cells[number] + 1 if kept is None else worths[kept]
-        return (worths, tuple(held_next))
+        return tuple(held_next)
 
     def told_outs(self, worths):
         """A dict of the outs, in order, of what beat tells."""

@@ -75,7 +75,7 @@ class Line:
         self.take(")")
         return told
 
-    def end(self):
+    def end_line(self):
         """Refuses signs that are left."""
         if self.at < len(self.text):
             self.break_off()
@@ -247,7 +247,7 @@ def read_first_line(line):
     ins = line.names_in_brackets()
     line.take(" OUT ")
     outs = line.names_in_brackets()
-    line.end()
+    line.end_line()
     return (name, ins, outs)
 
 
@@ -256,5 +256,5 @@ def read_row(line):
     targets = line.some_names()
     line.take(" = ")
     whole = ExpressionReader(line).whole()
-    line.end()
+    line.end_line()
     return (targets, whole)

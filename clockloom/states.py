@@ -17,6 +17,10 @@ class Held:
         self.name = made_name(within, place[0], place[1])
         self.e = e
 
+    def holds(self):
+        """What the place holds, by a word: "beats", or for a "then" the word of its k."""
+        return "beats" if self.e[0] == "beats" else self.e[1][0]
+
     def may_hold(self, worth, measure):
         """Whether a thing may be what the place holds."""
         if self.e[0] == "beats":

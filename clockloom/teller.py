@@ -2,54 +2,15 @@
 
 from clockloom.errors import NoBack
 from clockloom.feeding import check_beat
-from clockloom.flat import MOST_FLAT
-from clockloom.flattening import flat_of
-from clockloom.going import Plan
-from clockloom.shapes import flows_of
-from clockloom.states import held_places, numbers_by_spots, worths_with
-from clockloom.within import Within, flat_name_of
-
-
-class Ground:
-    """What all runs of a module stand on, and none changes."""
-
-    def __init__(self, book, name):
-        flat = flat_of(book, name, MOST_FLAT)
-        top = Within(book.seen, name)
-        self.measure = book.measure()
-        self.ins = flat[0]
-        self.plan = Plan(flat, self.measure)
-        self.flows = flows_of(top.module)
-        self.spots = [self.plan.spot_of(flat_name_of(top, x)) for x in self.flows]
-        self.places = held_places(top)
-        self.number_of = numbers_by_spots(self.places)
-        number_of = {x: number for number, x in enumerate(self.plan.cell_names)}
-        # The plan's cells stand in the order of rows, those of a state in the order of places.
-        self.numbers = [number_of[held.name] for held in self.places]
-
-    def by_places(self, cells):
-        """What the plan's cells hold, in the order of places."""
-        return [cells[number] for number in self.numbers]
-
-    def by_rows(self, held):
-        """What the places hold, in the order of the plan's cells."""
-        told = list(held)
-        for number, worth in zip(self.numbers, held):
-            told[number] = worth
-        return tuple(told)
-
-
-def _ground_of(book, name):
-    if name not in book.grounds:
-        book.grounds[name] = Ground(book, name)
-    return book.grounds[name]
+from clockloom.grounds import ground_of
+from clockloom.states import worths_with
 
 
 class Run:
     """A module that is fed beat by beat."""
 
     def __init__(self, book, name, *, state=()):
-        ground = _ground_of(book, name)
+        ground = ground_of(book, name)
         begins = ground.by_places(ground.plan.cell_begins)
         held = worths_with(state, ground.places, ground.number_of, begins, ground.measure)
         self._book = book
@@ -66,12 +27,12 @@ class Run:
         worths, cells = ground.plan.beat(self._cells, ins)
         self._ahead.append((self._cells, self._worths))
         self._cells = cells
-        self._worths = [worths[spot] for spot in ground.spots]
+        self._worths = [worths[ground.spot_of[x]] for x in ground.spot_of]
         return ground.plan.told_outs(worths)
 
     def flows(self):
         """A tuple (flow, worth or None) for each flow, at the last beat."""
-        return [(x, worth) for x, worth in zip(self._ground.flows, self._worths)]
+        return [(x, worth) for x, worth in zip(list(self._ground.spot_of), self._worths)]
 
     def back(self, many=1):
         """Takes back so many last beats."""
@@ -88,6 +49,21 @@ class Run:
         told._worths = self._worths
         told._ahead = list(self._ahead)
         return told
+
+    def gone_over(self, book):
+        """A Run of the module of this name of another book, begun with what leads to its like there,
+        and a tuple (way, place) for each thing carried so."""
+        ground = ground_of(book, self._name)
+        carried = []
+        for held, (way, place, worth) in zip(self._ground.places, self.state()):
+            number = ground.number_of.get((way, place))
+            if number is not None and ground.places[number].holds() == held.holds():
+                carried.append((way, place, worth))
+        return (Run(book, self._name, state=carried), [(way, place) for way, place, _ in carried])
+
+    def ins(self):
+        """The tuple of the module's ins."""
+        return tuple([x for x, _, _ in self._ground.ins])
 
     def state(self):
         """A tuple (way, place, worth) for each place that holds something."""

@@ -3,7 +3,7 @@
 from clockloom.flatfacts import names_in_deed
 
 
-def _asked_by(row):
+def asked_by(row):
     """The flat names that must stand ahead of a row."""
     _, deed, conditions = row
     names = [] if deed[0] == "then" else names_in_deed(deed)
@@ -16,14 +16,14 @@ class Waiting:
 
     def __init__(self, rows):
         number_of = {row[0]: number for number, row in enumerate(rows)}
-        asked = [[number_of[x] for x in _asked_by(row) if x in number_of] for row in rows]
+        asked = [[number_of[x] for x in asked_by(row) if x in number_of] for row in rows]
         self._waits = [len(numbers) for numbers in asked]
         self._behind = [[] for _ in rows]
         for number, numbers in enumerate(asked):
             for ahead in numbers:
                 self._behind[ahead].append(number)
 
-    def begin(self):
+    def first_ones(self):
         """The numbers of the rows that wait for none."""
         return [number for number, many in enumerate(self._waits) if many == 0]
 

@@ -103,7 +103,8 @@ def place_of(word, k):
     return len(head) + rounds * len(again) + _place_in(again, left)
 
 
-def _first_signs(word, many):
+def first_signs(word, many):
+    """The first signs of the row that a word tells, as a text."""
     head, again = word
     rounds = max(0, many - len(head)) // len(again) + 1
     return (head + again * rounds)[:many]
@@ -138,8 +139,8 @@ def on(one, other, *, most=MOST_SIGNS):
     one = least_word(one)
     other = least_word(other)
     head, again = _on_lengths(one, other)
-    text = _first_signs(one, head + again)
-    row = _laid_on(text, _first_signs(other, text.count("1")))
+    text = first_signs(one, head + again)
+    row = _laid_on(text, first_signs(other, text.count("1")))
     return _least(row[:head], row[head:])
 
 
@@ -159,8 +160,8 @@ def first_unlike(one, other):
     _check_word(other)
     # Two rows that go on by p signs and by q signs are alike where p + q signs of them are.
     many = max(len(one[0]), len(other[0])) + len(one[1]) + len(other[1])
-    mine = _first_signs(one, many)
-    yours = _first_signs(other, many)
+    mine = first_signs(one, many)
+    yours = first_signs(other, many)
     for k in range(many):
         if mine[k] != yours[k]:
             return k

@@ -34,6 +34,18 @@ FUNCTIONS = {
         "fused": "(flat, loop, *, measure=2147483647)", "gathered": "(flat, *, measure=2147483647)",
         "if_count": "(loop)", "few_ifs": "(flat, track)",
     },
+    "parts": {"parts": "(book, name)"},
+    "callers": {
+        "caller_for": "(book, name, one, other)", "caller_judged": "(book, name, one, other, caller)",
+    },
+    "clockwords": {"clock_word": "(book, name, flow)"},
+    "nets": {
+        "net_wrong": "(book, thing)", "lanes_told": "(net, drive)", "lane_judged": "(net, drive, k, thing)",
+    },
+    "driving": {
+        "earliest": "(net)", "reasons": "(net)", "earliest_judged": "(net, drive, paper)", "waits": "(net, title)",
+    },
+    "papertexts": {"paper_text": "(thing, *, deep=40)", "read_paper": "(text, *, deep=40)"},
 }
 CLASSES = {
     "words": {"Word": {
@@ -52,9 +64,25 @@ CLASSES = {
         "__init__": "(self, flat, loop, *, measure=2147483647)", "feed": "(self, ins)", "done": "(self)", "cells": "(self)",
         "copy": "(self)", "__len__": "(self)",
     }},
+    "parts": {"Parted": {"__init__": "(self, book, name)", "told": "(self, k, ins)", "go_on": "(self, ins)"}},
+    "nets": {"Net": {
+        "__init__": "(self, book, net)", "shape": "(self)", "doors": "(self)", "__eq__": "(self, other)", "__len__": "(self)",
+    }},
+    "netruns": {"NetRun": {
+        "__init__": "(self, net, drive)", "beat": "(self, handed)", "lying": "(self)", "copy": "(self)", "__len__": "(self)",
+    }},
+    "stores": {"Store": {
+        "__init__": "(self, modules=(), *, measure=2147483647)", "put": "(self, module)", "drop": "(self, name)",
+        "begin": "(self, title, name)", "end": "(self, title)", "back": "(self)", "again": "(self)",
+        "feed": "(self, title, ins)", "over": "(self, title)", "deeds": "(self, rows, *, keep=False)",
+        "modules": "(self)", "titles": "(self)", "faces": "(self)", "settle": "(self)", "log": "(self)",
+        "run_of": "(self, title)", "__len__": "(self)",
+    }},
+    "desk": {"Desk": {"__init__": "(self, *, measure=2147483647)", "say": "(self, text)"}},
 }
 CONSTANTS = {
     "words": {"MOST_SIGNS": 20000}, "trees": {"MOST": 60}, "books": {"MEASURE": 2147483647}, "flat": {"MOST_FLAT": 2000},
+    "papertexts": {"MOST_DEEP": 40},
 }
 
 

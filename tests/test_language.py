@@ -25,7 +25,7 @@ NOT_IN_FILES = (
 )
 LIBRARY = {"math": {"gcd", "lcm", "isqrt"}, "heapq": {"heappush", "heappop"}}
 BARRED = (
-    ast.Global, ast.AsyncFunctionDef, ast.GeneratorExp, ast.Yield, ast.YieldFrom, ast.Try, ast.With, ast.Lambda,
+    ast.Global, ast.AsyncFunctionDef, ast.GeneratorExp, ast.Yield, ast.YieldFrom, ast.With, ast.Lambda,
     ast.Match, ast.AnnAssign, ast.Div, ast.Set, ast.SetComp, ast.Import, ast.NamedExpr, ast.Starred,
 )
 MAY_STAR = (ast.List, ast.Tuple)
@@ -107,6 +107,15 @@ class Language(unittest.TestCase):
                     self.assertEqual(node.decorator_list, [])
                 if isinstance(node, ast.Constant) and isinstance(node.value, float):
                     self.fail(f"{path.name}:{node.lineno}: a float")
+
+    def test_own_refusals_alone_are_caught(self):
+        own = own_names(self.trees[PACKAGE / "errors.py"], ast.ClassDef)
+        for name, node in self.each(ast.Try):
+            self.assertEqual((node.orelse, node.finalbody), ([], []), name)
+            for handler in node.handlers:
+                self.assertIsInstance(handler.type, ast.Name, name)
+                self.assertIn(handler.type.id, own, name)
+                self.assertIsNone(handler.name, name)
 
     def test_functions_of_tables_get_a_name_ahead_of_their_call(self):
         for name, node in self.each(ast.Call):
