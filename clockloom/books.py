@@ -68,6 +68,8 @@ class Book:
         self._measure = measure
         # What other files infer of the modules is kept here by names: so it is inferred once.
         self.seen = {}
+        self.molds = {}
+        self.flats = {}
         self.grounds = {}
         self.words = {}
 
@@ -93,6 +95,10 @@ class Book:
         """The measure."""
         return self._measure
 
+    def all_known(self):
+        """The dicts in which other files keep what they infer of modules."""
+        return [self.seen, self.molds, self.flats, self.grounds, self.words]
+
     def __eq__(self, other):
         return isinstance(other, Book) and self._table == other._table and self._measure == other._measure
 
@@ -109,7 +115,7 @@ def know_as(book, other):
         same[name] = other.has(name) and other.held(name) == book.held(name)
         same[name] = same[name] and all([same[below] for below in leads[name]])
         if same[name]:
-            for mine, known in ((book.seen, other.seen), (book.grounds, other.grounds), (book.words, other.words)):
+            for mine, known in zip(book.all_known(), other.all_known()):
                 if name in known:
                     mine[name] = known[name]
 

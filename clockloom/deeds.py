@@ -87,45 +87,50 @@ class Spots:
 
     def __init__(self, measure):
         self.begin = [measure]
-        self._spot_of = {}
+        self._flow_spots = {}
+        self._cell_spots = {}
+        self._others = {}
 
-    def _new(self, key, worth):
-        if key not in self._spot_of:
-            self._spot_of[key] = len(self.begin)
+    def _new(self, table, key, worth):
+        if key not in table:
+            table[key] = len(self.begin)
             self.begin.append(worth)
-        return self._spot_of[key]
+        return table[key]
 
     def flow(self, x):
         """The number of a flow, by its flat name."""
-        return self._new(("flow", x), None)
+        return self._new(self._flow_spots, x, None)
 
     def atom(self, atom):
         """The number of an atom."""
         if atom[0] == "flow":
-            return self.flow(atom[1])
-        return self._new(atom, first_worth(atom, self.begin[0]))
+            return self._new(self._flow_spots, atom[1], None)
+        return self._new(self._others, atom, first_worth(atom, self.begin[0]))
 
     def cell(self, x):
         """The number of the cell of a flow."""
-        return self._new(("cell", x), None)
+        return self._new(self._cell_spots, x, None)
 
     def word(self, beats):
         """The number of the word of a "beats"."""
-        return self._new(beats, (beats[1], beats[2]))
+        return self._new(self._others, beats, (beats[1], beats[2]))
 
     def of_deed(self, x, deed, row_deed):
         """The numbers for the deed that sets x, by a row whose deed is the last one."""
         word = deed[0]
-        if word == "cell":
-            return (self.flow(x), self.cell(x))
-        if word == "sign":
-            return (self.flow(x), self.cell(x), self.word(row_deed))
-        if word in ("num", "truth", "flow"):
-            return (self.flow(x), self.atom(deed))
-        atoms = [self.atom(deed[spot]) for spot in ATOM_SPOTS[word]]
-        if word == "merge":
-            return (self.flow(x), self.flow(deed[1]), *atoms)
-        return (self.flow(x), *atoms)
+        told = [self.flow(x)]
+        if word in ATOM_SPOTS:
+            if word == "merge":
+                told.append(self.flow(deed[1]))
+            for spot in ATOM_SPOTS[word]:
+                told.append(self.atom(deed[spot]))
+        elif word == "cell":
+            told.append(self.cell(x))
+        elif word == "sign":
+            told.extend([self.cell(x), self.word(row_deed)])
+        else:
+            told.append(self.atom(deed))
+        return told
 
     def worths(self, cells, held, ins, handed):
         """All worths at the begin of a beat: what cells hold, what is handed in, else what is ever so."""

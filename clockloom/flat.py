@@ -5,9 +5,8 @@ from clockloom.errors import NoFlow, NoWay
 from clockloom.facing import faced_in
 from clockloom.flattening import flat_of
 from clockloom.going import Plan
-from clockloom.shapes import flows_of
+from clockloom.molds import molds_of
 from clockloom.things import is_whole
-from clockloom.within import Within, flat_name_of
 
 MOST_FLAT = 2000
 
@@ -17,23 +16,30 @@ def flat(book, name):
     return flat_of(book, name, MOST_FLAT)
 
 
-def _led_to(within, way):
-    """The module to which a way leads."""
-    if not isinstance(way, tuple):
-        raise NoWay("a way is a tuple of numbers of rows")
-    for k in way:
-        if not is_whole(k) or not within.calls(k):
-            raise NoWay("each number of a way is that of a row that is a call")
-        within = within.below(k)
-    return within
+def _call_at(mold, k):
+    """The Call that is row k."""
+    if not is_whole(k) or not 0 <= k < len(mold.rows) or mold.rows[k][1] is None:
+        raise NoWay("each number of a way is that of a row that is a call")
+    return mold.rows[k][1]
 
 
 def flat_name(book, name, way, x):
     """The flat name of a flow, seen by a way."""
-    within = _led_to(Within(faced_in(book, name), name), way)
-    if x not in flows_of(within.module):
+    faced_in(book, name)
+    molds = molds_of(book, name)
+    mold = molds[name]
+    prefix = ""
+    names = mold.names(prefix, list(mold.module[1]))
+    if not isinstance(way, tuple):
+        raise NoWay("a way is a tuple of numbers of rows")
+    for k in way:
+        call = _call_at(mold, k)
+        mold = molds[call.name]
+        prefix += call.tail
+        names = mold.names(prefix, [names[at] for at in call.ins])
+    if x not in mold.number_of:
         raise NoFlow(x)
-    return flat_name_of(within, x)
+    return names[mold.number_of[x]]
 
 
 def told_flat(flat, beats, *, measure=MEASURE):

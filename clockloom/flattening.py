@@ -4,108 +4,103 @@ from heapq import heappop, heappush
 
 from clockloom.errors import TooLong
 from clockloom.facing import faced_in
-from clockloom.shapes import NAME_SPOTS, PART_SPOTS, parts_of, walk
-from clockloom.waiting import Waiting
-from clockloom.within import Within, flat_name_of, made_name
-
-PLAIN = ("num", "truth", "flow")
-
-
-def _makes_row(whole, path, e):
-    """Whether an expression at a path in a row makes a row of its own, or of the row's."""
-    if whole[0] == "call":
-        return bool(path) and (e[0] not in PLAIN or (len(path) == 1 and e[0] != "flow"))
-    return not path or e[0] not in PLAIN
-
-
-def _many_rows(seen, name, many):
-    """How many rows a module makes with all that it calls; many keeps those that are counted."""
-    if name not in many:
-        rows = seen[name].module[3]
-        count = 0
-        for k, path, e in walk(rows):
-            if _makes_row(rows[k][1], path, e):
-                count += 1
-            if e[0] == "call":
-                count += _many_rows(seen, e[1], many)
-        many[name] = count
-    return many[name]
+from clockloom.molds import many_rows, molds_of
 
 
 class Spreading:
-    """The rows that a module and all that it calls make, in the order in which they are made."""
+    """The rows that a module and all that it calls make, each behind those that it asks for.
 
-    def __init__(self):
+    They are made in the order told; one that asks for a name that isn't told yet waits, and comes
+    ahead of all that are made later as soon as it may.
+    """
+
+    def __init__(self, molds, ins):
         self.rows = []
+        self._molds = molds
+        self._told = {x: True for x in ins}
+        self._many_made = 0
+        # By names that are asked for, the numbers of the rows that wait; by numbers those rows, and how
+        # many names each of them lacks.
+        self._behind = {}
+        self._waiting = {}
+        self._lacks = {}
 
-    def spread(self, within, base):
-        """Makes the rows of a module whose base has these conditions."""
-        clocks = {(): base}
-        for k, (_, whole) in enumerate(within.module[3]):
-            self._make(within, clocks, k, (), whole)
-            if whole[0] == "call":
-                self.spread(within.below(k), _conditions(within, clocks, (k, ())))
+    def spread(self, name, prefix, ins, base):
+        """Makes the rows of a module by the way with this beginning of names, the names of its ins and its base."""
+        mold = self._molds[name]
+        names = mold.names(prefix, ins)
+        things = names + [("flow", x) for x in names] + mold.constants
+        clocks = [base + tuple([(names[at], b) for at, b in clock]) for clock in mold.clocks]
+        told = self._told
+        for made, call in mold.rows:
+            for at, deed, clock, asked in made:
+                row = (names[at], _filled(deed, things), clocks[clock])
+                lacking = [names[other] for other in asked if names[other] not in told]
+                if not clock and base and base[-1][0] not in told:
+                    lacking.append(base[-1][0])
+                self._come(row, lacking)
+            if call is not None:
+                below = [names[at] for at in call.ins]
+                self.spread(call.name, prefix + call.tail, below, clocks[call.clock])
 
-    def _make(self, within, clocks, k, path, e):
-        """Makes the rows of an expression, its parts ahead of itself."""
-        for i, part in enumerate(parts_of(e)):
-            self._make(within, clocks, k, (*path, i), part)
-        if _makes_row(within.module[3][k][1], path, e):
-            conditions = _conditions(within, clocks, (k, path))
-            self.rows.append((made_name(within, k, path), _deed(within, k, path, e), conditions))
+    def _come(self, row, lacking):
+        """A row is made that lacks some names."""
+        number = self._many_made
+        self._many_made += 1
+        if lacking:
+            self._waiting[number] = row
+            self._lacks[number] = len(lacking)
+            for x in lacking:
+                self._behind.setdefault(x, []).append(number)
+            return
+        self.rows.append(row)
+        self._told[row[0]] = True
+        if row[0] in self._behind:
+            self._tell_waiting(row[0])
+
+    def _tell_waiting(self, x):
+        """Tells those rows that wait for nothing more, once a name is told."""
+        ready = []
+        self._let_go(x, ready)
+        while ready:
+            row = self._waiting.pop(heappop(ready))
+            self.rows.append(row)
+            self._told[row[0]] = True
+            self._let_go(row[0], ready)
+
+    def _let_go(self, x, ready):
+        for number in self._behind.pop(x, []):
+            self._lacks[number] -= 1
+            if self._lacks[number] == 0:
+                heappush(ready, number)
 
 
-def _conditions(within, clocks, place):
-    """The conditions of a place, from the outermost call on; clocks keeps those that are told."""
-    own = within.conditions[place]
-    if own not in clocks:
-        clocks[own] = clocks[()] + tuple([(flat_name_of(within, c), b) for c, b in own])
-    return clocks[own]
+def _filled(deed, things):
+    """A deed whose things are told by their numbers."""
+    if len(deed) == 1:
+        return things[deed[0]]
+    if len(deed) == 3:
+        return (things[deed[0]], things[deed[1]], things[deed[2]])
+    return tuple([things[at] for at in deed])
 
 
-def _atom(within, k, path, part):
-    if part[0] in ("num", "truth"):
-        return part
-    if part[0] == "flow":
-        return ("flow", flat_name_of(within, part[1]))
-    return ("flow", made_name(within, k, path))
-
-
-def _deed(within, k, path, e):
-    """The expression with atoms as its parts, and with flat names."""
-    made = list(e)
-    if e[0] in NAME_SPOTS:
-        spot = NAME_SPOTS[e[0]]
-        made[spot] = flat_name_of(within, e[spot])
-    for i, spot in enumerate(PART_SPOTS.get(e[0], ())):
-        made[spot] = _atom(within, k, (*path, i), e[spot])
-    return tuple(made)
-
-
-def _sorted_rows(rows):
-    """The rows, each behind those that it asks for, else in the order in which they were made."""
-    waiting = Waiting(rows)
-    ready = waiting.first_ones()
-    told = []
-    while ready:
-        number = heappop(ready)
-        told.append(rows[number])
-        for other in waiting.behind(number):
-            heappush(ready, other)
-    return told
+def _made_flat(book, name, most):
+    seen = faced_in(book, name)[name]
+    if many_rows(book, name) > most:
+        raise TooLong("the flat module would have too many rows")
+    molds = molds_of(book, name)
+    spreading = Spreading(molds, seen.ins)
+    spreading.spread(name, "", list(seen.ins), ())
+    ins = []
+    for x, kind, conditions in zip(seen.ins, seen.face[0], seen.face[1]):
+        ins.append((x, "truth" if kind == "truth" else "number", conditions))
+    outs = [(x, molds[name].out_tail(i)) for i, x in enumerate(seen.outs)]
+    return (ins, outs, spreading.rows)
 
 
 def flat_of(book, name, most):
     """The flat module of a module; refused where it has no face, or would have more than most rows."""
-    seen = faced_in(book, name)
-    if _many_rows(seen, name, {}) > most:
-        raise TooLong("the flat module would have too many rows")
-    top = Within(seen, name)
-    spreading = Spreading()
-    spreading.spread(top, ())
-    face = seen[name].face
-    ins = []
-    for x, kind, conditions in zip(top.module[1], face[0], face[1]):
-        ins.append((x, "truth" if kind == "truth" else "number", conditions))
-    outs = [(x, flat_name_of(top, x)) for x in top.module[2]]
-    return (ins, outs, _sorted_rows(spreading.rows))
+    if name not in book.flats:
+        book.flats[name] = _made_flat(book, name, most)
+    ins, outs, rows = book.flats[name]
+    return (list(ins), list(outs), list(rows))

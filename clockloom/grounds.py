@@ -3,9 +3,8 @@
 from clockloom.flat import MOST_FLAT
 from clockloom.flattening import flat_of
 from clockloom.going import Plan
-from clockloom.shapes import flows_of
+from clockloom.molds import molds_of
 from clockloom.states import held_places, numbers_by_spots
-from clockloom.within import Within, flat_name_of
 
 
 class Ground:
@@ -13,12 +12,14 @@ class Ground:
 
     def __init__(self, book, name):
         flat = flat_of(book, name, MOST_FLAT)
-        top = Within(book.seen, name)
         self.measure = book.measure()
         self.ins, self.outs, self.rows = flat
         self.plan = Plan(flat, self.measure)
-        self.spot_of = {x: self.plan.spot_of(flat_name_of(top, x)) for x in flows_of(top.module)}
-        self.places = held_places(top)
+        molds = molds_of(book, name)
+        mold = molds[name]
+        names = mold.names("", [x for x, _, _ in self.ins])
+        self.spot_of = {x: self.plan.spot_of(names[mold.number_of[x]]) for x in mold.number_of}
+        self.places = held_places(molds, name)
         self.number_of = numbers_by_spots(self.places)
         number_of = {x: number for number, x in enumerate(self.plan.cell_names)}
         # The plan's cells stand in the order of rows, those of a state in the order of places.

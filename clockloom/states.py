@@ -2,19 +2,17 @@
 
 from clockloom.errors import NoState
 from clockloom.feeding import is_worth
-from clockloom.shapes import walk
 from clockloom.things import is_whole
 from clockloom.trees import is_spot
-from clockloom.within import made_name
 
 
 class Held:
     """A place that holds something: the way to it, its flat name, and its expression."""
 
-    def __init__(self, within, place, e):
-        self.way = within.way
+    def __init__(self, way, place, name, e):
+        self.way = way
         self.place = place
-        self.name = made_name(within, place[0], place[1])
+        self.name = name
         self.e = e
 
     def holds(self):
@@ -28,15 +26,17 @@ class Held:
         return is_worth("truth" if self.e[1][0] == "truth" else "number", worth, measure)
 
 
-def held_places(within):
-    """Each Held of a module, row by row, those of a called module behind the row's own."""
+def held_places(molds, name, way=(), prefix=""):
+    """Each Held of a module by its molds, row by row, those of a called module behind the row's own."""
+    mold = molds[name]
+    # No name of an in holds anything.
+    names = mold.names(prefix, ["" for _ in mold.module[1]])
     told = []
-    for k, row in enumerate(within.module[3]):
-        for _, path, e in walk([row]):
-            if e[0] in ("then", "beats"):
-                told.append(Held(within, (k, path), e))
-        if row[1][0] == "call":
-            told.extend(held_places(within.below(k)))
+    for k, (_, call) in enumerate(mold.rows):
+        for place, at, e in mold.held[k]:
+            told.append(Held(way, place, names[at], e))
+        if call is not None:
+            told.extend(held_places(molds, call.name, (*way, k), prefix + call.tail))
     return told
 
 

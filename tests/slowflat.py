@@ -5,6 +5,17 @@ from clockloom.faces import face
 from tests.oracles import others, plain_parts
 
 
+class Looked:
+    """A book whose modules, and the clocks of whose places, are asked for once."""
+
+    def __init__(self, book):
+        self.table = {module[0]: module for module in book.modules()}
+        self.clocks = {name: dict(clocks(book, name)[1]) for name in self.table if clocks(book, name)[0] == "clocks"}
+
+    def module(self, name):
+        return self.table[name]
+
+
 def led_to(book, name, way):
     """The module to which a way leads."""
     module = book.module(name)
@@ -39,7 +50,7 @@ def base_of(book, name, way):
 
 def conditions_of(book, name, way, place):
     """The conditions of a place, from the outermost call on."""
-    own = dict(clocks(book, led_to(book, name, way)[0])[1])[place][1]
+    own = book.clocks[led_to(book, name, way)[0]][place][1]
     return base_of(book, name, way) + tuple((name_of(book, name, way, c), b) for c, b in own)
 
 
@@ -107,13 +118,18 @@ def names_asked(row):
 
 def slow_flat(book, name):
     """The flat module of a module."""
-    left = made_rows(book, name, ())
+    looked = Looked(book)
+    left = made_rows(looked, name, ())
     known = {row[0] for row in left}
+    told = set()
     rows = []
     while left:
-        told = {row[0] for row in rows}
-        row = [row for row in left if all(x in told or x not in known for x in names_asked(row))][0]
-        left.remove(row)
+        ready = (at for at, row in enumerate(left) if all(x in told or x not in known for x in names_asked(row)))
+        at = next(ready, None)
+        if at is None:
+            raise IndexError("the rows that are left ask for one another in a ring")
+        row = left.pop(at)
+        told.add(row[0])
         rows.append(row)
     module = book.module(name)
     kinds, face_clocks, _ = face(book, name)

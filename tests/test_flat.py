@@ -146,6 +146,46 @@ class Long(unittest.TestCase):
             with self.assertRaises(TooLong):
                 flat(self.book(rows), "m")
 
+    def deep_book(self, rows):
+        """A book of calls in calls, of ins and calls with conditions, whose module m has a flat one of so many rows."""
+        texts = [
+            "MODULE ma (a, c) OUT (x, y)\ny = (IF (x < 3) THEN s ELSE (x * s))\nx = (MERGE c a (s UNLESS c))\n"
+            "s = (0 THEN (s + 1))"
+        ]
+        for name, below in zip("bcdefg", "abcdef"):
+            texts.append(
+                f"MODULE m{name} (a, c) OUT (x, y)\nx = (p + r)\np, q = m{below}((u WHEN f), f)\n"
+                f"r, y = m{below}((q WHEN g), g)\nu = (MERGE c (a * 2) ((0 THEN q) UNLESS c))\nf = (u < 5)\ng = (NOT f)"
+            )
+        own = [
+            "x = (x{} + (MERGE b xb (1 UNLESS b)))", "xb, yb = mf(((u WHEN b) WHEN k), k)", "k = (h WHEN b)",
+            "xc, yc = mg((yd WHEN h), h)", "xd, yd = me((u WHEN h), h)", "u = (a + (0 THEN yc))",
+            "h = (BEATS 01(110))", "xe, ye = md((ye{} WHEN h), h)", "yea = (0 THEN ye)", "xf, yf = mc(((a * yea) WHEN h), h)",
+        ]
+        fixed = "MODULE m (a, b) OUT (x, ye)\n" + "\n".join(own).format("e", "a")
+        lacking = rows - len(flat(book_of(*texts, fixed), "m")[2])
+        # Each of these asks for the next one, so all wait for the last one.
+        names = [f"z{one}{other}" for one in "abc" for other in "abcdefghij"]
+        ones = [f"{x} = ({y} + (1 + a))" for x, y in zip(names, names[1:])][:lacking // 2]
+        odd = ["yz = h"] if lacking % 2 else []
+        last = f"{names[len(ones)]} = (a * 2)"
+        ones[-1] = ones[-1].replace("(1 + a)", "1")
+        return book_of(*texts, "\n".join([fixed] + ones + odd + [last]))
+
+    def test_calls_in_calls_by_a_slow_way(self):
+        for rows in (MOST_FLAT - 1, MOST_FLAT):
+            book = self.deep_book(rows)
+            told = flat(book, "m")
+            self.assertEqual(len(told[2]), rows)
+            self.assertEqual(repr(told), repr(slow_flat(book, "m")))
+        book = self.deep_book(MOST_FLAT + 1)
+        self.assertEqual(len(slow_flat(book, "m")[2]), MOST_FLAT + 1)
+        for _ in range(2):
+            with self.assertRaises(TooLong):
+                flat(book, "m")
+        for name in ("ma", "mb", "mc", "me"):
+            self.assertEqual(repr(flat(book, name)), repr(slow_flat(book, name)))
+
     def test_far_too_many(self):
         texts = ["MODULE ma (a) OUT (x)\nx = (a + 1)"]
         for name, below in zip("bcdefghijkl", "abcdefghijk"):

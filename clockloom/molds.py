@@ -1,0 +1,182 @@
+"""Molds: what a module makes flat, as far as it is the same by whatever way the module is called.
+
+Names stand in a mold by numbers: first those of the ins, which a caller tells, then one for each
+tail, a text that stands behind the flat names' beginning for the way. What deeds are made of
+stands by numbers, too: all names, then the flow of each name, then what is ever the same.
+"""
+
+from clockloom.books import called_first
+from clockloom.shapes import NAME_SPOTS, PART_SPOTS, name_in, parts_of, walk
+
+PLAIN = ("num", "truth", "flow")
+
+
+def _makes_row(whole, path, e):
+    """Whether an expression at a path in a row makes a row of its own, or of the row's."""
+    if whole[0] == "call":
+        return bool(path) and (e[0] not in PLAIN or (len(path) == 1 and e[0] != "flow"))
+    return not path or e[0] not in PLAIN
+
+
+def _made_in(row, path, e):
+    """A tuple (path, e) for each expression of a row that makes a row, each behind its parts."""
+    told = []
+    for i, part in enumerate(parts_of(e)):
+        told.extend(_made_in(row, (*path, i), part))
+    if _makes_row(row[1], path, e):
+        told.append((path, e))
+    return told
+
+
+class Call:
+    """A row that is a call: the called module's name, the names of its ins, and its clock, by their numbers."""
+
+    def __init__(self, name, tail, ins, clock):
+        self.name = name
+        self.tail = tail
+        self.ins = ins
+        self.clock = clock
+
+
+class Mold:
+    """A module's mold; molds has those of the modules that it calls."""
+
+    def __init__(self, seen, molds):
+        self.module = seen.module
+        self.number_of = {x: number for number, x in enumerate(seen.ins)}
+        self.tails = []
+        self._number_at = {}
+        self._conditions = seen.conditions
+        self._name_flows(molds)
+        made = [self._name_made(molds, k, row) for k, row in enumerate(self.module[3])]
+        self._many_names = len(seen.ins) + len(self.tails)
+        self.constants = []
+        self._constant_at = {}
+        self.clocks = [()]
+        self._clock_at = {(): 0}
+        # For each row what it makes, tuples (name, deed, clock, names asked for), and its Call or None.
+        self.rows = []
+        # For each row a tuple (place, name, e) for each "then" and "beats" in it, in the order of places.
+        self.held = [self._held_in(k, row) for k, row in enumerate(self.module[3])]
+        for k, row in enumerate(self.module[3]):
+            self.rows.append(([self._made_row(k, path, e) for path, e in made[k]], self._call(k, row)))
+
+    def _new_name(self, tail):
+        self.tails.append(tail)
+        return len(self.module[1]) + len(self.tails) - 1
+
+    def _name_flows(self, molds):
+        for k, (targets, e) in enumerate(self.module[3]):
+            for i, x in enumerate(targets):
+                # The target of a call has the name of the out for which it stands.
+                tail = f"{k}." + molds[e[1]].out_tail(i) if e[0] == "call" else x
+                self.number_of[x] = self._new_name(tail)
+
+    def out_tail(self, i):
+        """The tail of the i-th out."""
+        number = self.number_of[self.module[2][i]]
+        return self.tails[number - len(self.module[1])]
+
+    def _name_made(self, molds, k, row):
+        """Names what a row makes, and tells it."""
+        told = _made_in(row, (), row[1])
+        for path, _ in told:
+            if not path:
+                number = self.number_of[row[0][0]]
+            elif row[1][0] == "call" and len(path) == 1:
+                number = self._new_name(f"{k}." + molds[row[1][1]].module[1][path[0]])
+            else:
+                number = self._new_name("-".join([str(i) for i in (k, *path)]))
+            self._number_at[(k, path)] = number
+        return told
+
+    def _constant(self, thing):
+        """The number of a thing that is ever the same."""
+        if thing not in self._constant_at:
+            self._constant_at[thing] = 2 * self._many_names + len(self.constants)
+            self.constants.append(thing)
+        return self._constant_at[thing]
+
+    def _clock(self, place):
+        """The number of a place's own conditions."""
+        own = self._conditions[place]
+        if own not in self._clock_at:
+            self._clock_at[own] = len(self.clocks)
+            self.clocks.append(tuple([(self.number_of[c], b) for c, b in own]))
+        return self._clock_at[own]
+
+    def _part_name(self, k, path, part):
+        """The number of the name of a part that is no number or truth."""
+        return self.number_of[part[1]] if part[0] == "flow" else self._number_at[(k, path)]
+
+    def _made_row(self, k, path, e):
+        clock = self._clock((k, path))
+        # What is there goes by the last condition, whose flow stands behind those of the others.
+        asked = [number for number, _ in self.clocks[clock][-1:]]
+        if e[0] not in PART_SPOTS and e[0] != "flow":
+            return (self._number_at[(k, path)], (self._constant(e),), clock, asked)
+        x = name_in(e)
+        if x is not None:
+            asked.append(self.number_of[x])
+        deed = []
+        for spot, thing in enumerate(e):
+            if spot in PART_SPOTS.get(e[0], ()):
+                deed.append(self._atom(k, (*path, PART_SPOTS[e[0]].index(spot)), thing, asked))
+            elif spot == NAME_SPOTS.get(e[0]):
+                deed.append(self.number_of[x])
+            else:
+                deed.append(self._constant(thing))
+        if e[0] == "then":
+            del asked[1 if clock else 0:]
+        return (self._number_at[(k, path)], tuple(deed), clock, asked)
+
+    def _atom(self, k, path, part, asked):
+        """The number of the atom of a part; its name, if it has one, is asked for."""
+        if part[0] in ("num", "truth"):
+            return self._constant(part)
+        name = self._part_name(k, path, part)
+        asked.append(name)
+        return self._many_names + name
+
+    def _call(self, k, row):
+        if row[1][0] != "call":
+            return None
+        ins = []
+        for i, part in enumerate(row[1][2]):
+            ins.append(self._part_name(k, (i,), part))
+        return Call(row[1][1], f"{k}.", ins, self._clock((k, ())))
+
+    def names(self, prefix, ins):
+        """All names by a way, of which the beginning and the names of the ins are told."""
+        return ins + [prefix + tail for tail in self.tails]
+
+    def _held_in(self, k, row):
+        return [
+            ((k, path), self._number_at[(k, path)], e)
+            for _, path, e in walk([row]) if e[0] in ("then", "beats")
+        ]
+
+
+def many_rows(book, name):
+    """How many rows the flat module of a module has; no mold is needed to tell it."""
+    many = {}
+    for module in called_first(book, name):
+        rows = module[3]
+        count = 0
+        for k, path, e in walk(rows):
+            if _makes_row(rows[k][1], path, e):
+                count += 1
+            if e[0] == "call":
+                count += many[e[1]]
+        many[module[0]] = count
+    return many[name]
+
+
+def molds_of(book, name):
+    """The molds of a module that has a face and of all those that it calls, by their names (and of others)."""
+    known = book.molds
+    if name not in known:
+        for module in called_first(book, name):
+            if module[0] not in known:
+                known[module[0]] = Mold(book.seen[module[0]], known)
+    return known
