@@ -6,7 +6,7 @@ stands by numbers, too: all names, then the flow of each name, then what is ever
 """
 
 from clockloom.books import called_first
-from clockloom.shapes import NAME_SPOTS, PART_SPOTS, name_in, parts_of, walk
+from clockloom.shapes import NAME_SPOTS, PART_SPOTS, parts_of, walk
 
 PLAIN = ("num", "truth", "flow")
 
@@ -115,28 +115,27 @@ class Mold:
         asked = [number for number, _ in self.clocks[clock][-1:]]
         if e[0] not in PART_SPOTS and e[0] != "flow":
             return (self._number_at[(k, path)], (self._constant(e),), clock, asked)
-        x = name_in(e)
-        if x is not None:
-            asked.append(self.number_of[x])
         deed = []
         for spot, thing in enumerate(e):
             if spot in PART_SPOTS.get(e[0], ()):
-                deed.append(self._atom(k, (*path, PART_SPOTS[e[0]].index(spot)), thing, asked))
+                deed.append(self._atom(k, (*path, PART_SPOTS[e[0]].index(spot)), thing))
             elif spot == NAME_SPOTS.get(e[0]):
-                deed.append(self.number_of[x])
+                deed.append(self.number_of[thing])
             else:
                 deed.append(self._constant(thing))
-        if e[0] == "then":
-            del asked[1 if clock else 0:]
+        if e[0] != "then":
+            asked.extend(self._names_in(deed))
         return (self._number_at[(k, path)], tuple(deed), clock, asked)
 
-    def _atom(self, k, path, part, asked):
-        """The number of the atom of a part; its name, if it has one, is asked for."""
+    def _atom(self, k, path, part):
+        """The number of the atom of a part."""
         if part[0] in ("num", "truth"):
             return self._constant(part)
-        name = self._part_name(k, path, part)
-        asked.append(name)
-        return self._many_names + name
+        return self._many_names + self._part_name(k, path, part)
+
+    def _names_in(self, deed):
+        """The numbers of the names in a deed, in atoms too."""
+        return [number % self._many_names for number in deed if number < 2 * self._many_names]
 
     def _call(self, k, row):
         if row[1][0] != "call":

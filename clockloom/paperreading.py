@@ -5,8 +5,18 @@ from clockloom.paperwords import WORDS, is_bare
 from clockloom.things import SMALL
 
 FIGURES = "0123456789"
+AT_ONCE = 60
 ENDS = {"(": ")", "[": "]", "{": "}"}
 ESCAPED = {"'": "'", "^": "^", "n": "\n"}
+
+
+def _number_of(figures):
+    """The number that figures write, so many that int itself may not read them all at once."""
+    begin = len(figures) % AT_ONCE
+    told = int(figures[:begin]) if begin else 0
+    for at in range(begin, len(figures), AT_ONCE):
+        told = told * 10 ** 60 + int(figures[at:at + AT_ONCE])
+    return told
 
 
 class Bracket:
@@ -136,7 +146,7 @@ class PaperReader:
         figures = self._some(FIGURES)
         if not figures:
             self._break_off(self._at)
-        return -int(figures) if below else int(figures)
+        return -_number_of(figures) if below else _number_of(figures)
 
     def _quoted(self):
         """Reads a text between two signs ', refused at the first one where it needs none."""

@@ -25,7 +25,7 @@ class Kept:
 
     def begun(self, title):
         """The Begun of a title, refused where there is none."""
-        if title not in self.runs:
+        if not is_name(title) or title not in self.runs:
             raise NoTitle("there is no such run")
         return self.runs[title]
 

@@ -196,6 +196,14 @@ class Breaks(unittest.TestCase):
             self.assertEqual(paper_text(-int("9" * many)), "-" + "9" * many)
         self.breaks("x1" + "9" * 5000, 1)
         self.breaks("(00" + "9" * 5000 + ")", 2)
+        for many in (59, 60, 61, 119, 120, 121, 180):
+            text = ("1234567890" * 20)[:many]
+            self.assertEqual((read_paper(text), read_paper("-" + text)), (int(text), -int(text)))
+        # What ends too soon, or breaks off, within so long a number.
+        for text in ("9" * 4301 + "x", "[1" + "0" * 9000 + ",", "-" + "9" * 5000 + "-"):
+            self.breaks(text, len(text) - 1)
+        for text in ("[" + "9" * 5000, "{a (-" + "1" * 9990):
+            self.breaks(text, len(text))
 
 
 class Papers(unittest.TestCase):
