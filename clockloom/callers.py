@@ -23,7 +23,6 @@ class Making:
 
     def __init__(self, seen):
         doors = seen.ins + seen.outs
-        self.seen = seen
         self.kind_of = {x: "truth" if kind == "truth" else "number" for x, kind in zip(doors, seen.face[0])}
         self.clock_of = {x: clock for x, clock in zip(doors, seen.face[1])}
         self.flow_of = {x: "out" + SMALL[number] for number, x in enumerate(seen.outs)}

@@ -66,12 +66,12 @@ def go_on(worths, spots):
 # What is done, and at which places of the deed's tuple its atoms stand, in the order of spots.
 ACTIONS = {
     "sum": _sum, "less": _less, "times": _times, "below": _below, "same": _same, "both": _both,
-    "either": _either, "not": _not, "pick": _choose, "merge": _choose, "when": move,
+    "either": _either, "not": _not, "pick": _choose, "merge": _choose,
     "num": move, "truth": move, "flow": move, "cell": move, "sign": _sign,
 }
 ATOM_SPOTS = {
     "sum": (1, 2), "less": (1, 2), "times": (1, 2), "below": (1, 2), "same": (1, 2), "both": (1, 2),
-    "either": (1, 2), "not": (1,), "pick": (1, 2, 3), "when": (1,), "merge": (2, 3),
+    "either": (1, 2), "not": (1,), "pick": (1, 2, 3), "merge": (2, 3),
 }
 
 

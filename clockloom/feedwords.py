@@ -19,8 +19,8 @@ def beat_of(words):
     told = {}
     at = len(words[0]) + 1 + len(words[1]) + 1
     for word in words[2:]:
-        name, sign, worth = word.partition("=")
-        if not is_name(name) or not sign or not (worth in TRUTHS or _is_num(worth)):
+        name, _, worth = word.partition("=")
+        if not is_name(name) or not (worth in TRUTHS or _is_num(worth)):
             raise NoText(0, at)
         if name in told:
             raise Twice(name)

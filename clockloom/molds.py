@@ -6,26 +6,41 @@ stands by numbers, too: all names, then the flow of each name, then what is ever
 """
 
 from clockloom.books import called_first
-from clockloom.shapes import NAME_SPOTS, PART_SPOTS, parts_of, walk
+from clockloom.shapes import NAME_SPOTS, PART_SPOTS, calls_of, parts_of
 
 PLAIN = ("num", "truth", "flow")
 
 
-def _makes_row(whole, path, e):
-    """Whether an expression at a path in a row makes a row of its own, or of the row's."""
-    if whole[0] == "call":
-        return bool(path) and (e[0] not in PLAIN or (len(path) == 1 and e[0] != "flow"))
-    return not path or e[0] not in PLAIN
+def _add_made(told, path, e):
+    """Adds a tuple (path, e) for an expression, behind those for the expressions in it that make a row."""
+    for i, part in enumerate(parts_of(e)):
+        if part[0] not in PLAIN:
+            _add_made(told, (*path, i), part)
+    told.append((path, e))
 
 
-def _made_in(row, path, e):
+def _made_in(row):
     """A tuple (path, e) for each expression of a row that makes a row, each behind its parts."""
     told = []
-    for i, part in enumerate(parts_of(e)):
-        told.extend(_made_in(row, (*path, i), part))
-    if _makes_row(row[1], path, e):
-        told.append((path, e))
+    if row[1][0] != "call":
+        _add_made(told, (), row[1])
+        return told
+    for i, part in enumerate(row[1][2]):
+        if part[0] != "flow":
+            _add_made(told, (i,), part)
     return told
+
+
+def _many_made(e):
+    """How many rows an expression makes with all that is in it."""
+    return 1 + sum([_many_made(part) for part in parts_of(e) if part[0] not in PLAIN])
+
+
+def _many_made_in(row):
+    """How many rows a row makes, but for those of what it calls."""
+    if row[1][0] != "call":
+        return _many_made(row[1])
+    return sum([_many_made(part) for part in row[1][2] if part[0] != "flow"])
 
 
 class Call:
@@ -57,7 +72,7 @@ class Mold:
         # For each row what it makes, tuples (name, deed, clock, names asked for), and its Call or None.
         self.rows = []
         # For each row a tuple (place, name, e) for each "then" and "beats" in it, in the order of places.
-        self.held = [self._held_in(k, row) for k, row in enumerate(self.module[3])]
+        self.held = [self._held_in(k, some) for k, some in enumerate(made)]
         for k, row in enumerate(self.module[3]):
             self.rows.append(([self._made_row(k, path, e) for path, e in made[k]], self._call(k, row)))
 
@@ -79,7 +94,7 @@ class Mold:
 
     def _name_made(self, molds, k, row):
         """Names what a row makes, and tells it."""
-        told = _made_in(row, (), row[1])
+        told = _made_in(row)
         for path, _ in told:
             if not path:
                 number = self.number_of[row[0][0]]
@@ -116,10 +131,12 @@ class Mold:
         if e[0] not in PART_SPOTS and e[0] != "flow":
             return (self._number_at[(k, path)], (self._constant(e),), clock, asked)
         deed = []
+        part_spots = PART_SPOTS.get(e[0], ())
+        name_spot = NAME_SPOTS.get(e[0])
         for spot, thing in enumerate(e):
-            if spot in PART_SPOTS.get(e[0], ()):
-                deed.append(self._atom(k, (*path, PART_SPOTS[e[0]].index(spot)), thing))
-            elif spot == NAME_SPOTS.get(e[0]):
+            if spot in part_spots:
+                deed.append(self._atom(k, (*path, part_spots.index(spot)), thing))
+            elif spot == name_spot:
                 deed.append(self.number_of[thing])
             else:
                 deed.append(self._constant(thing))
@@ -149,25 +166,17 @@ class Mold:
         """All names by a way, of which the beginning and the names of the ins are told."""
         return ins + [prefix + tail for tail in self.tails]
 
-    def _held_in(self, k, row):
-        return [
-            ((k, path), self._number_at[(k, path)], e)
-            for _, path, e in walk([row]) if e[0] in ("then", "beats")
-        ]
+    def _held_in(self, k, made):
+        held = {path: e for path, e in made if e[0] in ("then", "beats")}
+        return [((k, path), self._number_at[(k, path)], held[path]) for path in sorted(held)]
 
 
 def many_rows(book, name):
     """How many rows the flat module of a module has; no mold is needed to tell it."""
     many = {}
     for module in called_first(book, name):
-        rows = module[3]
-        count = 0
-        for k, path, e in walk(rows):
-            if _makes_row(rows[k][1], path, e):
-                count += 1
-            if e[0] == "call":
-                count += many[e[1]]
-        many[module[0]] = count
+        count = sum([_many_made_in(row) for row in module[3]])
+        many[module[0]] = count + sum([many[call[1]] for _, _, call in calls_of(module)])
     return many[name]
 
 

@@ -228,7 +228,7 @@ class Judged(unittest.TestCase):
                                 (0, "p", ("worth", None)), (0, "p", ("worth", 0, 0)), (0, "p", ("empty", 0)), (0, "p", ("full", 0)),
                                 (None, "p", ("worth", 0)), (None, "p", ("room", 0)), (None, "p", ("begin",)), (None, "p", ("own",)),
                                 (None, "p", ("empty",)), (None, "p", ("empty", 1)), (None, "p", ("empty", True)), (None, 0, ("empty", 0)),
-                                (0, "p", (["begin"],)), (0, "p", (None, 0)), (None, "p", ([], 0)), (0, "p", ("other", 0))):
+                                (0, "p", ["worth", 0]), (None, "p", ["empty", 0]), (0, "p", (["begin"],)), (0, "p", (None, 0)), (None, "p", ([], 0)), (0, "p", ("other", 0))):
             self.assertEqual(self.judged((0, 2, fine + [line])), ("paper",), line)
             self.assertEqual(self.judged((0, 2, [line] + fine)), ("paper",), line)
         for line in ((-1, "p", ("begin",)), (10 ** 29, "zz", ("own",)), (7, "", ("worth", 0)), (None, "zz", ("empty", 0)),

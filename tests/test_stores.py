@@ -108,7 +108,9 @@ class Deeds(unittest.TestCase):
         store.begin("r", "n")
         self.assertEqual([store.feed("r", {"a": at}) for at in (3, 4, 5)], [{"x": 0}, {"x": 3}, {"x": 7}])
         self.refused(NoTitle, store.feed, "q", {"a": 1})
-        self.refused(NoTitle, store.feed, "", {"zz": 1})
+        for title in ("", "R", "r ", None, ["r"], ("r",), {}):
+            for call, more in ((store.feed, [{"zz": 1}]), (store.over, []), (store.end, []), (store.run_of, [])):
+                self.refused(NoTitle, call, title, *more)
         self.refused(NoBeat, store.feed, "r", {}, told="a")
         self.refused(NoBeat, store.feed, "r", {"a": True}, told="a")
         self.refused(NoBeat, store.feed, title="r", ins={"a": 1, "b": 1}, told="b")
