@@ -1,8 +1,9 @@
 """Callers: modules that call one so that two of its outs, put as one, would make a ring."""
 
-from clockloom.books import MOST_MODULES, Book, book_wrong
+from clockloom.books import MOST_MODULES, Book, book_wrong, called_first, know_as
+from clockloom.clockfacts import Seen
 from clockloom.errors import NoFlow, TooLong
-from clockloom.facing import faced_in, seen_in
+from clockloom.facing import faced_in, fill_seen, seen_in
 from clockloom.shapes import calls_of
 from clockloom.things import SMALL
 
@@ -89,17 +90,32 @@ def caller_for(book, name, one, other):
     return None
 
 
-def _has_order_as_one(book, name, one, other, caller):
-    """Whether a module of a book has an order where two outs of another one are put as one."""
-    # A book of its own: what is inferred of the callers goes by the face that is changed here.
-    own = Book(book.modules(), measure=book.measure())
-    seen = seen_in(own, name)[name]
+def _as_one(seen, one, other):
+    """What is Seen of a module, with two of its outs put as one."""
     kinds, clocks, wants = seen.face
     both = [ins for out, ins in zip(seen.outs, wants) if out in (one, other)]
-    as_one = tuple([x for x in seen.ins if [ins for ins in both if x in ins]])
-    wants = tuple([as_one if out in (one, other) else ins for out, ins in zip(seen.outs, wants)])
-    seen.face = (kinds, clocks, wants)
-    order = seen_in(own, caller)[caller].order
+    wanted = tuple([x for x in seen.ins if [ins for ins in both if x in ins]])
+    told = Seen(seen.module)
+    told.door_kinds = seen.door_kinds
+    told.face = (kinds, clocks, tuple([
+        wanted if out in (one, other) else ins for out, ins in zip(seen.outs, wants)
+    ]))
+    return told
+
+
+def _has_order_as_one(book, name, one, other, caller):
+    """Whether a module of a book has an order where two outs of another one are put as one."""
+    modules = called_first(book, caller)
+    known = {name: _as_one(book.seen[name], one, other)}
+    # All that stand on the module by calls are looked at anew, by the face that is changed.
+    anew = {name: True}
+    for module in modules:
+        if [call for _, _, call in calls_of(module) if call[1] in anew]:
+            anew[module[0]] = True
+        elif module[0] not in anew:
+            known[module[0]] = book.seen[module[0]]
+    fill_seen(known, modules)
+    order = known[caller].order
     return order is not None and order[0] == "order"
 
 
@@ -112,6 +128,7 @@ def caller_judged(book, name, one, other, caller):
     if len([call for _, _, call in calls_of(caller) if call[1] == name]) != 1:
         return ("call",)
     wide = Book(modules, measure=book.measure())
+    know_as(wide, book)
     if seen_in(wide, caller[0])[caller[0]].face is None:
         return ("face",)
     if _has_order_as_one(wide, name, one, other, caller[0]):

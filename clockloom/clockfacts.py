@@ -9,15 +9,16 @@ from clockloom.shapes import calls_of, flows_of, places_below, walk
 class Seen:
     """All that is inferred of a module.
 
-    Each of these is None where what is ahead of it goes wrong: conditions leads each place
-    to those of its clock, wants and order are as 19 tells, the face is what callers see. The
-    paper tells why there is no face.
+    Each of these is None where what is ahead of it goes wrong: door_kinds are those of the ins
+    and outs, conditions leads each place to those of its clock, wants and order are as 19 tells,
+    the face is what callers see. The paper tells why there is no face.
     """
 
     def __init__(self, module):
         self.module = module
         self.ins = module[1]
         self.outs = module[2]
+        self.door_kinds = None
         self.conditions = None
         self.wants = None
         self.order = None

@@ -4,8 +4,9 @@ from clockloom.books import called_first
 from clockloom.clockfacts import Seen, clocked, facts_of, first_faceless, first_not_plain
 from clockloom.clocksolving import solved
 from clockloom.errors import NoFace
-from clockloom.kinds import door_kinds, kinds_papers
+from clockloom.kinds import door_kinds, kinds_paper
 from clockloom.links import Links
+from clockloom.shapes import calls_of
 from clockloom.wanting import ins_led_to, order_by, wants_of
 
 
@@ -59,7 +60,7 @@ def _clocks_seen(seen, known):
         seen.paper = ("name", unnamed)
 
 
-def _wants_seen(seen, kinds_told, known):
+def _wants_seen(seen, known):
     """Fills in the wants, and the face, of what is Seen of a module whose doors have clocks."""
     module = seen.module
     seen.wants = wants_of(module, seen.conditions, known)
@@ -69,30 +70,34 @@ def _wants_seen(seen, kinds_told, known):
         return
     clocks = tuple([seen.conditions[x] for x in module[1] + module[2]])
     wants = tuple([ins_led_to(module, seen.wants, out) for out in module[2]])
-    seen.face = (_kinds_anew(door_kinds(module, kinds_told)), clocks, wants)
+    seen.face = (_kinds_anew(seen.door_kinds), clocks, wants)
 
 
-def _seen_of(module, kinds_told, known):
-    """What is Seen of a module, by what kinds tells of it and by what is Seen of those that it calls."""
+def _seen_of(module, known):
+    """What is Seen of a module, by what is Seen of those that it calls."""
     seen = Seen(module)
-    if kinds_told[0] != "kinds":
-        seen.paper = kinds_told
+    told = kinds_paper(module, {call[1]: known[call[1]].door_kinds for _, _, call in calls_of(module)})
+    seen.door_kinds = door_kinds(module, told)
+    if seen.door_kinds is None:
+        seen.paper = told
         return seen
     _clocks_seen(seen, known)
     if seen.paper is None:
-        _wants_seen(seen, kinds_told, known)
+        _wants_seen(seen, known)
     return seen
+
+
+def fill_seen(known, modules):
+    """Fills in what is Seen of those of some modules that are not known, each behind those that it calls."""
+    for module in modules:
+        if module[0] not in known:
+            known[module[0]] = _seen_of(module, known)
 
 
 def seen_among(book, modules):
     """What is Seen of modules of a book, each behind those that it calls, by their names (and of others)."""
-    known = book.seen
-    lacking = [module for module in modules if module[0] not in known]
-    if lacking:
-        papers = kinds_papers(modules)
-        for module in lacking:
-            known[module[0]] = _seen_of(module, papers[module[0]], known)
-    return known
+    fill_seen(book.seen, modules)
+    return book.seen
 
 
 def seen_in(book, name):

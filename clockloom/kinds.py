@@ -70,7 +70,8 @@ def _first_kindless(module, doors):
     return None
 
 
-def _paper_of(module, doors):
+def kinds_paper(module, doors):
+    """What kinds tells of a module; doors leads each module called by it to the kinds of its ins and outs."""
     m = _first_kindless(module, doors)
     if m is not None:
         return ("inner", m)
@@ -91,7 +92,7 @@ def kinds_papers(modules):
     doors = {}
     for module in modules:
         name = module[0]
-        papers[name] = _paper_of(module, doors)
+        papers[name] = kinds_paper(module, doors)
         doors[name] = door_kinds(module, papers[name])
     return papers
 
