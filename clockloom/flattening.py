@@ -30,7 +30,7 @@ class Spreading:
         mold = self._molds[name]
         names = mold.names(prefix, ins)
         things = names + [("flow", x) for x in names] + mold.constants
-        clocks = [base + tuple([(names[at], b) for at, b in clock]) for clock in mold.clocks]
+        clocks = [base + tuple([(names[c], b) for c, b in own]) for own in mold.clocks]
         told = self._told
         for made, call in mold.rows:
             for at, deed, clock, asked in made:

@@ -132,7 +132,7 @@ class Store:
     def titles(self):
         """The titles of the runs, in the order in which they came."""
         runs = self._kept.runs
-        return [title for _, title in sorted([(runs[title].came, title) for title in runs])]
+        return [title for _, title in sorted([(runs[x].came, x) for x in runs])]
 
     def faces(self):
         """A tuple (name, face or None) for each module."""

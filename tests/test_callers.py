@@ -223,6 +223,14 @@ class Judged(unittest.TestCase):
         ringed = book_of(CROSS, "MODULE j () OUT (x)\nx, y = k((x < 1), 3)")
         self.assertIsNone(self.judged("MODULE m () OUT (x)\nx, y = k(TRUE, 3)\nz = j()", book=ringed))
         self.assertEqual(self.judged("MODULE m () OUT (x)\nx, y = k(TRUE, 3)", book=ringed), ("ring",))
+        ringed = book_of(CROSS, "MODULE j () OUT (x)\nx, y = k((x < 1), 3)", "MODULE h () OUT (x)\nx = j()")
+        self.assertIsNone(self.judged("MODULE m () OUT (x)\nx, y = k(TRUE, 3)\nz = h()", book=ringed))
+        handed_on = book_of(CROSS, "MODULE j (a, b) OUT (x, y)\nx, y = k(a, b)", "MODULE h (a, b) OUT (x, y)\nx, y = j(a, b)", LATE)
+        for inner in "jh":
+            text = f"MODULE m () OUT (x)\nx, y = k(TRUE, 3)\np, q = {inner}((p < 1), 3)"
+            self.assertIsNone(self.judged(text, book=handed_on))
+            text = f"MODULE m () OUT (x)\nx, y = k(TRUE, 3)\np, q = {inner}(TRUE, 3)\nv, w = l(p, 1)"
+            self.assertEqual(self.judged(text, book=handed_on), ("ring",))
 
     def test_the_book_stays_as_it_is(self):
         book = book_of(CROSS)
