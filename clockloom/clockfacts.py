@@ -63,7 +63,7 @@ def _by_word(place, e, parts):
     return [("same", place, part) for part in parts]
 
 
-def _stand_ins(call, targets, below):
+def stand_ins(call, targets, below):
     """The caller's flow that stands for each out, and for each in whose part is a flow."""
     flow_of = {x: target for x, target in zip(below.outs, targets)}
     for x, part in zip(below.ins, call[2]):
@@ -74,7 +74,7 @@ def _stand_ins(call, targets, below):
 
 def _by_call(place, call, targets, below):
     """The facts that a call tells."""
-    flow_of = _stand_ins(call, targets, below)
+    flow_of = stand_ins(call, targets, below)
     facts = []
     ends = places_below(place[0], place[1], call) + list(targets)
     for end, clock in zip(ends, below.face[1]):

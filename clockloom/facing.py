@@ -4,8 +4,9 @@ from clockloom.books import called_first
 from clockloom.clockfacts import Seen, clocked, facts_of, first_faceless, first_not_plain
 from clockloom.clocksolving import solved
 from clockloom.errors import NoFace
-from clockloom.kinds import door_kinds, kinds_paper
+from clockloom.kinds import kinds_paper
 from clockloom.links import Links
+from clockloom.quicklook import quick_conditions, quick_kinds
 from clockloom.shapes import calls_of
 from clockloom.wanting import ins_led_to, order_by, wants_of
 
@@ -47,14 +48,23 @@ def _kinds_anew(kinds):
     return tuple(told)
 
 
+def _kinds_seen(seen, known):
+    """Fills in the kinds of what is Seen of a module, or why it has none."""
+    module = seen.module
+    doors = {call[1]: known[call[1]].door_kinds for _, _, call in calls_of(module)}
+    seen.door_kinds = quick_kinds(module, doors)
+    if seen.door_kinds is None:
+        seen.paper = kinds_paper(module, doors)
+
+
 def _clocks_seen(seen, known):
     """Fills in the clocks of what is Seen of a module that has kinds, or why it has none."""
     module = seen.module
-    told = clocks_paper(module, known)
-    if told[0] != "clocks":
-        seen.paper = told
+    if first_faceless(module, known) is None and first_not_plain(module, known) is None:
+        seen.conditions = quick_conditions(module, known)
+    if seen.conditions is None:
+        seen.paper = clocks_paper(module, known)
         return
-    seen.conditions = {place: clock[1] for place, clock in told[1]}
     unnamed = _first_unnamed(module, seen.conditions)
     if unnamed is not None:
         seen.paper = ("name", unnamed)
@@ -76,12 +86,9 @@ def _wants_seen(seen, known):
 def _seen_of(module, known):
     """What is Seen of a module, by what is Seen of those that it calls."""
     seen = Seen(module)
-    told = kinds_paper(module, {call[1]: known[call[1]].door_kinds for _, _, call in calls_of(module)})
-    seen.door_kinds = door_kinds(module, told)
-    if seen.door_kinds is None:
-        seen.paper = told
-        return seen
-    _clocks_seen(seen, known)
+    _kinds_seen(seen, known)
+    if seen.paper is None:
+        _clocks_seen(seen, known)
     if seen.paper is None:
         _wants_seen(seen, known)
     return seen

@@ -6,24 +6,24 @@ from clockloom.errors import TooLong
 from clockloom.facing import faced_in
 from clockloom.molds import many_rows, molds_of
 
+# Stands among names for one that is ever there.
+ALWAYS = ""
+
 
 class Spreading:
-    """The rows that a module and all that it calls make, each behind those that it asks for.
+    """The rows that a module and all that it calls make, each behind those for which it asks.
 
-    They are made in the order told; one that asks for a name that isn't told yet waits, and comes
+    They are made in the order told. One that asks for what hasn't come yet waits for that, and comes
     ahead of all that are made later as soon as it may.
     """
 
     def __init__(self, molds, ins):
         self.rows = []
         self._molds = molds
-        self._told = {x: True for x in ins}
-        self._many_made = 0
-        # By names that are asked for, the numbers of the rows that wait; by numbers those rows, and how
-        # many names each of them lacks.
-        self._behind = {}
+        self._there = {x: True for x in [ALWAYS, *ins]}
+        # All rows that had to wait, with what they ask for, and by names the numbers of those that wait for them.
+        self._left = []
         self._waiting = {}
-        self._lacks = {}
 
     def spread(self, name, prefix, ins, base):
         """Makes the rows of a module by the way with this beginning of names, the names of its ins and its base."""
@@ -31,48 +31,44 @@ class Spreading:
         names = mold.names(prefix, ins)
         things = names + [("flow", x) for x in names] + mold.constants
         clocks = [base + tuple([(names[c], b) for c, b in own]) for own in mold.clocks]
-        told = self._told
+        # What has no conditions of its own goes by the last one of the base.
+        names.append(base[-1][0] if base else ALWAYS)
         for made, call in mold.rows:
             for at, deed, clock, asked in made:
                 row = (names[at], _filled(deed, things), clocks[clock])
-                lacking = [names[other] for other in asked if names[other] not in told]
-                if not clock and base and base[-1][0] not in told:
-                    lacking.append(base[-1][0])
-                self._come(row, lacking)
+                for other in asked:
+                    if names[other] not in self._there:
+                        self._wait(row, [names[number] for number in asked], names[other])
+                        break
+                else:
+                    self._come(row)
             if call is not None:
                 below = [names[at] for at in call.ins]
                 self.spread(call.name, prefix + call.tail, below, clocks[call.clock])
 
-    def _come(self, row, lacking):
-        """A row is made that lacks some names."""
-        number = self._many_made
-        self._many_made += 1
-        if lacking:
-            self._waiting[number] = row
-            self._lacks[number] = len(lacking)
-            for x in lacking:
-                self._behind.setdefault(x, []).append(number)
-            return
+    def _wait(self, row, asked, lacking):
+        """A row waits for a name that it lacks."""
+        self._waiting.setdefault(lacking, []).append(len(self._left))
+        self._left.append((row, asked))
+
+    def _come(self, row):
+        """A row comes, and those that waited for it and lack nothing more, the one made first ahead."""
         self.rows.append(row)
-        self._told[row[0]] = True
-        if row[0] in self._behind:
-            self._tell_waiting(row[0])
-
-    def _tell_waiting(self, x):
-        """Tells those rows that wait for nothing more, once a name is told."""
-        ready = []
-        self._let_go(x, ready)
+        self._there[row[0]] = True
+        if row[0] not in self._waiting:
+            return
+        ready = sorted(self._waiting.pop(row[0]))
         while ready:
-            row = self._waiting.pop(heappop(ready))
-            self.rows.append(row)
-            self._told[row[0]] = True
-            self._let_go(row[0], ready)
-
-    def _let_go(self, x, ready):
-        for number in self._behind.pop(x, []):
-            self._lacks[number] -= 1
-            if self._lacks[number] == 0:
-                heappush(ready, number)
+            number = heappop(ready)
+            other, asked = self._left[number]
+            lacking = [x for x in asked if x not in self._there]
+            if lacking:
+                self._waiting.setdefault(lacking[0], []).append(number)
+                continue
+            self.rows.append(other)
+            self._there[other[0]] = True
+            for more in self._waiting.pop(other[0], ()):
+                heappush(ready, more)
 
 
 def _filled(deed, things):

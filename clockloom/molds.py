@@ -126,8 +126,9 @@ class Mold:
 
     def _made_row(self, k, path, e):
         clock = self._clock((k, path))
-        # What is there goes by the last condition, whose flow stands behind those of the others.
-        asked = [number for number, _ in self.clocks[clock][-1:]]
+        # What is there goes by the last condition, whose flow stands behind those of the others; where
+        # there is none, by the last one of the base, whose number is behind those of all names.
+        asked = [number for number, _ in self.clocks[clock][-1:]] or [self._many_names]
         if e[0] not in PART_SPOTS and e[0] != "flow":
             return (self._number_at[(k, path)], (self._constant(e),), clock, asked)
         deed = []
