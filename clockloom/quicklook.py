@@ -1,6 +1,6 @@
 """A quick look at a module: the kinds of its ins and outs, and at which beats each place is there.
 
-It goes by numbers of nodes that are joined, and tells nothing where anything goes wrong: why that
+It goes by numbers of nodes that are tied, and tells nothing where anything goes wrong: why that
 is so, and all papers, are left to those who look at each place.
 """
 
@@ -11,18 +11,16 @@ from clockloom.shapes import flows_of, parts_of
 NUMBER = 0
 TRUTH = 1
 
-# What the parts of an expression are told to be, and what it is itself, where that is ever the same.
-PARTS_TOLD = {
-    "sum": NUMBER, "less": NUMBER, "times": NUMBER, "below": NUMBER, "both": TRUTH, "either": TRUTH, "not": TRUTH,
-}
+# The node of what the parts of an expression are told to be, and of what it is itself, where that is ever the same.
+PARTS_TOLD = {"sum": 0, "less": 0, "times": 0, "below": 0, "both": 1, "either": 1, "not": 1}
 ITSELF = {
-    "num": NUMBER, "truth": TRUTH, "beats": TRUTH, "sum": NUMBER, "less": NUMBER, "times": NUMBER,
-    "below": TRUTH, "same": TRUTH, "both": TRUTH, "either": TRUTH, "not": TRUTH,
+    "num": 0, "truth": 1, "beats": 1, "sum": 0, "less": 0, "times": 0, "below": 1, "same": 1, "both": 1, "either": 1,
+    "not": 1,
 }
 
 
 class Nodes:
-    """Nodes by numbers from 0 on, some of which are joined."""
+    """Nodes by numbers from 0 on, some of which are tied."""
 
     def __init__(self):
         self._lead = []
@@ -33,28 +31,28 @@ class Nodes:
         return len(self._lead) - 1
 
     def of(self, node):
-        """The node that stands for all those that are joined with one."""
+        """The node that stands for all those that are tied with one."""
         lead = self._lead
         while lead[node] != node:
             lead[node] = lead[lead[node]]
             node = lead[node]
         return node
 
-    def join(self, one, other):
-        """Joins two nodes."""
+    def tie(self, one, other):
+        """Ties two nodes."""
         one = self.of(one)
         other = self.of(other)
         if one != other:
             self._lead[other] = one
 
-    def join_all(self, node, some):
-        """Joins a node with some others."""
+    def tie_all(self, node, some):
+        """Ties a node with some others."""
         for other in some:
-            self.join(node, other)
+            self.tie(node, other)
 
 
 class KindLook:
-    """What a module's rows tell of kinds: a node for each flow, joined with all that are of its kind."""
+    """What a module's rows tell of kinds: a node for each flow, tied with all that are of its kind."""
 
     def __init__(self, module, doors):
         self.nodes = Nodes()
@@ -64,16 +62,16 @@ class KindLook:
         for targets, e in module[3]:
             if e[0] == "call":
                 some = [self._node(part) for part in e[2]] + [self._node_of[x] for x in targets]
-                self._join_doors(some, doors[e[1]])
+                self._tie_doors(some, doors[e[1]])
             else:
-                self.nodes.join(self._node_of[targets[0]], self._node(e))
+                self.nodes.tie(self._node_of[targets[0]], self._node(e))
 
-    def _join_doors(self, some, kinds):
-        """Joins the nodes of a call's parts and targets as the kinds of what is called tell."""
+    def _tie_doors(self, some, kinds):
+        """Ties the nodes of a call's parts and targets as the kinds of what is called tell."""
         node_of = {"number": NUMBER, "truth": TRUTH}
         for node, kind in zip(some, kinds):
             if kind in node_of:
-                self.nodes.join(node_of[kind], node)
+                self.nodes.tie(node_of[kind], node)
             else:
                 node_of[kind] = node
 
@@ -84,19 +82,19 @@ class KindLook:
             return self._node_of[e[1]]
         some = [self._node(part) for part in parts_of(e)]
         if word in PARTS_TOLD:
-            self.nodes.join_all(PARTS_TOLD[word], some)
+            self.nodes.tie_all(PARTS_TOLD[word], some)
         elif word == "same":
-            self.nodes.join(some[0], some[1])
+            self.nodes.tie(some[0], some[1])
         elif word == "pick":
-            self.nodes.join(TRUTH, some[0])
-            self.nodes.join(some[1], some[2])
+            self.nodes.tie(TRUTH, some[0])
+            self.nodes.tie(some[1], some[2])
         elif word == "merge":
-            self.nodes.join(TRUTH, self._node_of[e[1]])
-            self.nodes.join(some[0], some[1])
+            self.nodes.tie(TRUTH, self._node_of[e[1]])
+            self.nodes.tie(some[0], some[1])
         elif word == "when":
-            self.nodes.join(TRUTH, self._node_of[e[2]])
+            self.nodes.tie(TRUTH, self._node_of[e[2]])
         elif word == "then":
-            self.nodes.join(NUMBER if e[1][0] == "num" else TRUTH, some[0])
+            self.nodes.tie(NUMBER if e[1][0] == "num" else TRUTH, some[0])
         return ITSELF[word] if word in ITSELF else some[-1]
 
     def kind(self, x):
@@ -121,7 +119,7 @@ def quick_kinds(module, doors):
 
 
 class ClockLook:
-    """What a module's rows tell of clocks: a node for each place, joined with all that are there with it.
+    """What a module's rows tell of clocks: a node for each place, tied with all that are there with it.
 
     A label is a tuple (c, b), and has a node as well: that of what is over the flow c where it is b.
     """
@@ -132,22 +130,22 @@ class ClockLook:
         self._label_nodes = {}
         for k, (targets, e) in enumerate(module[3]):
             if e[0] == "call":
-                self._join_call(k, targets, e, seen[e[1]])
+                self._tie_call(k, targets, e, seen[e[1]])
             else:
-                self._nodes.join(self._node_of[targets[0]], self._node(k, (), e))
+                self._nodes.tie(self._node_of[targets[0]], self._node(k, (), e))
 
     def _label(self, c, b):
         if (c, b) not in self._label_nodes:
             self._label_nodes[(c, b)] = self._nodes.new()
         return self._label_nodes[(c, b)]
 
-    def _join_call(self, k, targets, call, below):
+    def _tie_call(self, k, targets, call, below):
         base = self._nodes.new()
         self._node_of[(k, ())] = base
         flow_of = stand_ins(call, targets, below)
         ends = [self._node(k, (i,), part) for i, part in enumerate(call[2])] + [self._node_of[x] for x in targets]
         for node, clock in zip(ends, below.face[1]):
-            self._nodes.join(self._label(flow_of[clock[-1][0]], clock[-1][1]) if clock else base, node)
+            self._nodes.tie(self._label(flow_of[clock[-1][0]], clock[-1][1]) if clock else base, node)
 
     def _node(self, k, path, e):
         """The node of the expression at a place."""
@@ -157,15 +155,15 @@ class ClockLook:
         else:
             some = [self._node(k, (*path, i), part) for i, part in enumerate(parts_of(e))]
             if word == "when":
-                self._nodes.join(self._node_of[e[2]], some[0])
+                self._nodes.tie(self._node_of[e[2]], some[0])
                 node = self._label(e[2], e[3])
             elif word == "merge":
                 node = self._node_of[e[1]]
-                self._nodes.join(self._label(e[1], True), some[0])
-                self._nodes.join(self._label(e[1], False), some[1])
+                self._nodes.tie(self._label(e[1], True), some[0])
+                self._nodes.tie(self._label(e[1], False), some[1])
             else:
                 node = some[0] if some else self._nodes.new()
-                self._nodes.join_all(node, some[1:])
+                self._nodes.tie_all(node, some[1:])
         self._node_of[(k, path)] = node
         return node
 
