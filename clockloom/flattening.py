@@ -38,7 +38,7 @@ class Spreading:
                 row = (names[at], _filled(deed, things), clocks[clock])
                 for other in asked:
                     if names[other] not in self._there:
-                        self._wait(row, [names[number] for number in asked], names[other])
+                        self._wait(names[other], row, asked, names)
                         break
                 else:
                     self._come(row)
@@ -46,10 +46,10 @@ class Spreading:
                 below = [names[at] for at in call.ins]
                 self.spread(call.name, prefix + call.tail, below, clocks[call.clock])
 
-    def _wait(self, row, asked, lacking):
-        """A row waits for a name that it lacks."""
+    def _wait(self, lacking, row, asked, names):
+        """A row waits for a name that it lacks; asked has the numbers of all that it asks for among names."""
         self._waiting.setdefault(lacking, []).append(len(self._left))
-        self._left.append((row, asked))
+        self._left.append((row, asked, names))
 
     def _come(self, row):
         """A row comes, and those that waited for it and lack nothing more, the one made first ahead."""
@@ -60,8 +60,8 @@ class Spreading:
         ready = sorted(self._waiting.pop(row[0]))
         while ready:
             number = heappop(ready)
-            other, asked = self._left[number]
-            lacking = [x for x in asked if x not in self._there]
+            other, asked, names = self._left[number]
+            lacking = [names[at] for at in asked if names[at] not in self._there]
             if lacking:
                 self._waiting.setdefault(lacking[0], []).append(number)
                 continue
